@@ -1,0 +1,1 @@
+"""Stoodthen: stages told by dials that are looked at one by one."""

@@ -1,0 +1,104 @@
+"""The interface as the document lists it: files, names, parameters, and methods in their classes."""
+
+import ast
+import importlib
+import inspect
+import os
+import unittest
+
+import stoodthen
+
+# The lines of the interface, as far as it has landed.
+FUNCTIONS = {
+    "kinds": "is_integer(thing), is_number(thing), is_dials(thing), is_row(dials, thing), is_tour(dials, thing),"
+             " is_view(dials, tour, thing)",
+    "rowtools": "rows_many(dials), row_number(dials, row), row_by(dials, number), all_rows(dials),"
+                " unlike_dials(dials, row, other), renamed_row(dials, row, names)",
+    "lifechecker": "lets_life(thing)",
+    "lives": "life_of(dials, rows), stages_many(life), stage_at(life, moment), is_lean(life), first_moments(life),"
+             " turns_of(life, dial)",
+    "lifechanges": "turned_back(life), renamed_life(life, names), reordered_life(life, order), cut_life(life, many),"
+                   " kept_life(life, times)",
+    "machinechecker": "lets_machine(thing)",
+    "machines": "machine_of(life), stages_of(machine), spots_with(machine, stage), goes_to(machine, spot),"
+                " is_undo(machine), is_walk(machine, thing), machine_by(net, dials, rows),"
+                " turning_by(net, dials, rows), stepping_back(dials, rows, steps), weakened(machine)",
+    "netchecker": "lets_net(thing)",
+    "nets": "net_of(size, *ties), neighbours_of(net, stage), is_tied(net, here, there), way_of(net, here, there),"
+            " line_net(size), ring_net(size), star_net(size), hung_on(net, stage, other)",
+    "readerchecker": "lets_reader(dials, thing)",
+    "readerruns": "shown(dials, reader, row), told_stages(dials, reader), tour_of(dials, reader, row)",
+    "lifetexts": "life_line(life), read_life(text)",
+    "nettexts": "net_line(net), read_net(text), reader_line(dials, reader), read_reader(text)",
+    "views": "view_of(life, tour, moments), watch_view(machine, tour, walk, moments), stages_met(machine, walk)",
+    "watchchecker": "lets_watch(machine, tour, thing)",
+    "seenviews": "views_of(machine, tour), can_see(machine, tour, view), watch_with(machine, tour, view)",
+    "rightstages": "right_stages(machine, tour, view), is_safe(machine, tour), first_torn(machine, tour),"
+                   " answer_table(machine, tour), avoiding_watch(machine, tour, view, stage)",
+    "avoidpapers": "avoid_paper(machine, tour), lets_avoiding(machine, tour, thing)",
+    "twolooks": "two_looks(life, tour), lets_two_looks(life, tour, thing)",
+    "strongparts": "strong_parts(machine), parts_without(machine, stage), carries(machine, part, row)",
+    "readables": "row_answers(machine, row), fooling_row(machine), is_readable(machine), enough_sweeps(machine),"
+                 " sweep_tour(dials, many)",
+    "foolpapers": "fool_paper(machine), lets_fooling(machine, thing)",
+    "readerjudges": "judged_reader(machine, reader), wrong_watch(machine, reader), lets_wrong(machine, reader, thing)",
+    "gaps": "gap_dials(dials, tour, gap), gap_products(dials, tour, gap), gap_bound(dials, tour, gap),"
+            " tour_bound(dials, tour), tight_gap(dials, tour), nested_form(dials, tour)",
+    "cutpapers": "kept_moments(life, tour, gap), cut_marks(life, tour, gap), clash_at(life, tour, gap),"
+                 " lets_cut(life, tour, gap, thing)",
+}
+CLASSES = {
+    "lifeclasses": ("Life(dials, spots)", "lean(), stages(), stage(moment), back(), cut(many), told()"),
+    "lookclasses": ("Looks(machine, tour)", "views(), right(view), safe(), torn(), table(), met(walk)"),
+}
+OWN_METHODS = {"Life": ("__eq__", "__len__"), "Looks": ("__eq__",)}
+
+
+def parts(text):
+    """The pairs of a name and its list of parameters."""
+    found = []
+    for part in text.replace("), ", ")|").split("|"):
+        name, _, rest = part.partition("(")
+        found.append((name, [word for word in rest.rstrip(")").split(", ") if word]))
+    return found
+
+
+def parameters(function):
+    return [str(parameter) for parameter in inspect.signature(function).parameters.values()]
+
+
+class Interface(unittest.TestCase):
+
+    def test_functions(self):
+        for file, text in FUNCTIONS.items():
+            module = importlib.import_module("stoodthen." + file)
+            for name, expected in parts(text):
+                function = getattr(module, name)
+                self.assertEqual(function.__module__, "stoodthen." + file)
+                self.assertEqual(parameters(function), expected, name)
+
+    def test_classes(self):
+        for file, (head, methods) in CLASSES.items():
+            module = importlib.import_module("stoodthen." + file)
+            (name, expected), = parts(head)
+            thing = getattr(module, name)
+            self.assertEqual(thing.__module__, "stoodthen." + file)
+            self.assertEqual(parameters(thing), expected)
+            for method, names in parts(methods):
+                self.assertIn(method, vars(thing))
+                self.assertEqual(parameters(vars(thing)[method]), ["self", *names])
+            for method in OWN_METHODS[name]:
+                self.assertIn(method, vars(thing))
+
+    def test_all_is_defined_in_its_file(self):
+        folder = os.path.dirname(stoodthen.__file__)
+        for file, text in {**FUNCTIONS, **{file: head for file, (head, _) in CLASSES.items()}}.items():
+            with open(os.path.join(folder, file + ".py"), encoding="utf-8") as source:
+                tree = ast.parse(source.read())
+            defined = [node.name for node in tree.body if isinstance(node, (ast.FunctionDef, ast.ClassDef))]
+            for name, _ in parts(text):
+                self.assertEqual(defined.count(name), 1, name)
+
+
+if __name__ == "__main__":
+    unittest.main()

@@ -1,0 +1,147 @@
+"""[12]: which parameter is refused first, and that the first one of a kind is handed in as such."""
+
+import itertools
+import unittest
+
+from stoodthen import (
+    avoidpapers, cutpapers, gaps, kinds, lifechanges, lifeclasses, lifetexts, lives, lookclasses, machines, nets,
+    nettexts, readables, readerjudges, readerruns, rightstages, rowtools, seenviews, strongparts, twolooks, views,
+    watchchecker)
+from tests.samples import BOTH, MB, ODD, RING, ROW, Promises
+
+DIALS = (2, 2)
+READER = (("look", 0, (1, 2)), ("tell", 0), ("tell", 3))
+ROWS = ((0, 0), (0, 1), (1, 1))
+
+# Each function with good arguments; those in the dict may be any values.
+CALLS = [
+    (kinds.is_view, (DIALS,), {"tour": (0,), "thing": (0,)}),
+    (rowtools.row_number, (DIALS,), {"row": (0, 1)}),
+    (rowtools.row_by, (DIALS,), {"number": 3}),
+    (rowtools.unlike_dials, (DIALS,), {"row": (0, 1), "other": (1, 1)}),
+    (rowtools.renamed_row, (DIALS,), {"row": (0, 1), "names": ((1, 0), (0, 1))}),
+    (lives.life_of, (DIALS,), {"rows": ROWS}),
+    (lives.stage_at, (BOTH,), {"moment": 2}),
+    (lives.turns_of, (BOTH,), {"dial": 1}),
+    (lifechanges.renamed_life, (BOTH,), {"names": ((1, 0), (0, 1))}),
+    (lifechanges.reordered_life, (BOTH,), {"order": (1, 0)}),
+    (lifechanges.cut_life, (BOTH,), {"many": 2}),
+    (lifechanges.kept_life, (BOTH,), {"times": 2}),
+    (machines.spots_with, (MB,), {"stage": 2}),
+    (machines.goes_to, (MB,), {"spot": 2}),
+    (machines.is_walk, (MB,), {"thing": (0, 1)}),
+    (machines.machine_by, (ROW,), {"dials": DIALS, "rows": ROWS}),
+    (machines.turning_by, (ROW,), {"dials": DIALS, "rows": ROWS}),
+    (machines.stepping_back, (DIALS,), {"rows": ROWS, "steps": 1}),
+    (nets.net_of, (), {"size": 1}),
+    (nets.neighbours_of, (RING,), {"stage": 2}),
+    (nets.is_tied, (RING,), {"here": 2, "there": 1}),
+    (nets.way_of, (RING,), {"here": 2, "there": 1}),
+    (nets.line_net, (), {"size": 12}),
+    (nets.ring_net, (), {"size": 3}),
+    (nets.star_net, (), {"size": 2}),
+    (nets.hung_on, (RING,), {"stage": 2, "other": ROW}),
+    (readerruns.shown, (DIALS,), {"reader": READER, "row": (0, 1)}),
+    (readerruns.told_stages, (DIALS,), {"reader": READER}),
+    (readerruns.tour_of, (DIALS,), {"reader": READER, "row": (0, 1)}),
+    (lifetexts.read_life, (), {"text": "2; 0 0"}),
+    (nettexts.read_net, (), {"text": "1"}),
+    (nettexts.reader_line, (DIALS,), {"reader": READER}),
+    (nettexts.read_reader, (), {"text": "2; tell 0"}),
+    (lifeclasses.Life, (), {"dials": DIALS, "spots": BOTH[1]}),
+    (lifeclasses.Life(*BOTH).stage, (), {"moment": 2}),
+    (lifeclasses.Life(*BOTH).cut, (), {"many": 2}),
+    (views.view_of, (BOTH,), {"tour": (0, 1), "moments": (0, 3)}),
+    (views.watch_view, (MB,), {"tour": (0, 1), "walk": (2, 3), "moments": (0, 1)}),
+    (views.stages_met, (MB,), {"walk": (2, 3)}),
+    (seenviews.views_of, (MB,), {"tour": (0, 1)}),
+    (seenviews.can_see, (MB,), {"tour": (0, 1), "view": (0, 1)}),
+    (seenviews.watch_with, (MB,), {"tour": (0, 1), "view": (0, 1)}),
+    (rightstages.right_stages, (MB,), {"tour": (0, 1), "view": (0, 1)}),
+    (rightstages.is_safe, (MB,), {"tour": (0, 1)}),
+    (rightstages.first_torn, (MB,), {"tour": (0, 1)}),
+    (rightstages.answer_table, (MB,), {"tour": (0, 1, 0)}),
+    (rightstages.avoiding_watch, (MB,), {"tour": (0, 1), "view": (0, 1), "stage": 2}),
+    (avoidpapers.avoid_paper, (MB,), {"tour": (0, 1)}),
+    (twolooks.two_looks, (BOTH,), {"tour": (0, 1)}),
+    (strongparts.parts_without, (MB,), {"stage": 2}),
+    (strongparts.carries, (MB,), {"part": (0, 2), "row": (0, 1)}),
+    (readables.row_answers, (MB,), {"row": (0, 1)}),
+    (readables.sweep_tour, (DIALS,), {"many": 2}),
+    (readerjudges.judged_reader, (MB,), {"reader": READER}),
+    (readerjudges.wrong_watch, (MB,), {"reader": READER}),
+    (lookclasses.Looks, (), {"machine": MB, "tour": (0, 1)}),
+    (lookclasses.Looks(MB, (0, 1)).right, (), {"view": (0, 1)}),
+    (lookclasses.Looks(MB, (0, 1)).met, (), {"walk": (2, 3)}),
+    (gaps.gap_dials, (DIALS,), {"tour": (0, 1), "gap": 1}),
+    (gaps.gap_products, (DIALS,), {"tour": (0, 1), "gap": 1}),
+    (gaps.gap_bound, (DIALS,), {"tour": (0, 1), "gap": 1}),
+    (gaps.tour_bound, (DIALS,), {"tour": (0, 1)}),
+    (gaps.tight_gap, (DIALS,), {"tour": (0, 1)}),
+    (gaps.nested_form, (DIALS,), {"tour": (0, 1)}),
+    (cutpapers.kept_moments, (BOTH,), {"tour": (0, 1), "gap": 1}),
+    (cutpapers.cut_marks, (BOTH,), {"tour": (0, 1), "gap": 1}),
+    (cutpapers.clash_at, (BOTH,), {"tour": (0, 1), "gap": 1}),
+]
+# Checkers: their thing is refused by InvalidPaper, the parameters ahead of it by NotUsable.
+CHECKERS = [
+    (watchchecker.lets_watch, (MB,), {"tour": (0, 1)}, ((1, 2, 3), (0, 2))),
+    (avoidpapers.lets_avoiding, (MB,), {"tour": ()}, ((), (((1,), ()), ((0,), ()), ((3,), ()), ((2,), ())))),
+    (twolooks.lets_two_looks, (BOTH,), {"tour": (0, 1)}, ((0, 0), (1, 3))),
+    (readerjudges.lets_wrong, (MB,), {"reader": READER}, ((1,), (0,))),
+    (cutpapers.lets_cut, (BOTH,), {"tour": (0, 1, 0), "gap": 1}, ("first", "gone", "first", "gone")),
+]
+# Values of no kind that any of these parameters asks for.
+NEVER = (None, True, False, -1, -(10 ** 69), [], [()], [0], (None,), ((),), (True,), ([0],), (-1,), [[[[[]]]]])
+
+
+class Parameters(Promises):
+
+    def test_good_arguments_are_not_refused(self):
+        for function, first, others in CALLS:
+            by_place = function(*first, *others.values())
+            by_name = function(*first, **others)
+            self.assertEqual(by_place, by_name)
+        for function, first, others, paper in CHECKERS:
+            function(*first, *others.values(), paper)
+            function(*first, **others, thing=paper)
+
+    def test_each_parameter(self):
+        for function, first, others in CALLS:
+            for name in others:
+                if name != "thing":
+                    for wrong in NEVER:
+                        self.refuses(name, function, *first, *{**others, name: wrong}.values())
+
+    def test_the_first_wrong_one_is_told(self):
+        for function, first, others in CALLS:
+            names = [name for name in others if name != "thing"]
+            for many in range(2, len(names) + 1):
+                for wrong in itertools.combinations(names, many):
+                    values = {**others, **dict.fromkeys(wrong, None)}
+                    self.refuses(wrong[0], function, *first, *values.values())
+
+    def test_checkers(self):
+        for function, first, others, paper in CHECKERS:
+            for name, wrong in itertools.product(others, NEVER):
+                values = {**others, name: wrong}
+                self.refuses(name, function, *first, *values.values(), paper)
+                self.refuses(name, function, *first, *values.values(), None)
+            self.refuses(list(others)[0], function, *first, *[None for _ in others], None)
+            for thing in ODD:
+                if not (isinstance(thing, tuple) and len(thing) in (2, 4)):
+                    self.rejects("shape", -1, function, *first, *others.values(), thing)
+
+    def test_by_name(self):
+        self.assertEqual(lifechanges.kept_life(times=2, life=BOTH)[1][1], ((0, 0), 1))
+        self.assertEqual(nets.hung_on(other=ROW, stage=1, net=ROW)[0], 5)
+        self.assertEqual(gaps.gap_bound(gap=1, tour=(0, 1), dials=(2, 2)), 3)
+        self.assertEqual(rightstages.is_safe(machine=MB, tour=(0, 1, 0)), True)
+
+    def test_results_are_the_same_each_time(self):
+        for function, first, others in CALLS:
+            self.assertEqual(function(*first, *others.values()), function(*first, *others.values()))
+
+
+if __name__ == "__main__":
+    unittest.main()
