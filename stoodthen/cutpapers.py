@@ -57,7 +57,6 @@ def last_unbegun(shows, stage):
 def clash_at(life, tour, gap):
     """The moments of two watches told by the first clash, or None."""
     need(is_tour(life[0], tour) and tour != (), "tour")
-    need_gap(life, tour, gap)
     marks = cut_marks(life, tour, gap)
     if "clash" not in marks:
         return None

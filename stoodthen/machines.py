@@ -105,7 +105,8 @@ def turning_moves(lots, here, there, first):
     for lot in lots:
         for dial in whole:
             if dial not in lot:
-                moves.append((spot_of[lot], spot_of[tuple(sorted([*lot, dial]))]))
+                larger = tuple(sorted([*lot, dial]))
+                moves.append((spot_of[lot], spot_of[larger]))
     return moves
 
 

@@ -21,7 +21,9 @@ def following_shows(life, dial):
     """For each moment, and one more, a dict of the next moment that shows each value."""
     shows = [{}]
     for moment, (row, _) in list(enumerate(life[1]))[::-1]:
-        shows.append({**shows[-1], row[dial]: moment})
+        further = dict(shows[-1])
+        further[row[dial]] = moment
+        shows.append(further)
     return shows[::-1]
 
 

@@ -96,6 +96,7 @@ class Telling(Promises):
         self.gives((2, 3), spots_with, machine_of(KEPT), 1)
         odd = ((2,), (((0,), 9), ((0,), 4), ((1,), 9)), ((0, 1), (0, 2)))
         self.gives((4, 9), stages_of, odd)
+        self.gives((1, 8, 16), stages_of, ((2,), (((0,), 16), ((0,), 8), ((0,), 1)), ((0, 1), (1, 2))))
         self.gives((0, 2), spots_with, odd, 9)
         for stage in (0, 8, -1, True, None, "4", (4,)):
             self.refuses("stage", spots_with, odd, stage)

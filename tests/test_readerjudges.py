@@ -105,6 +105,38 @@ class Judged(Promises):
                     self.gives("right", judged_reader, machine, reader)
                     self.gives(None, wrong_watch, machine, reader)
 
+    def test_wrong_only_by_moving(self):
+        told = {(0, 0): 0, (0, 1): 1, (1, 1): 2, (1, 0): 3}
+        reader = reader_by(MB, (0, 1), told)
+        self.gives("wrong", judged_reader, MB, reader)
+        self.gives(((1, 2, 3), (0, 2)), wrong_watch, MB, reader)
+        late = (("look", 0, (0, 1)), ("look", 1, (2, 3)), ("tell", 9), ("tell", 2))
+        self.gives(((3,), (0, 0)), wrong_watch, MB, late)
+
+    def test_one_wrong_answer_in_a_right_table(self):
+        for machine, _ in CASES[:150]:
+            for tour in ((0,), tuple(range(len(machine[0]))), (0, len(machine[0]) - 1, 0)):
+                table = dict(answer_table(machine, tour)) if is_safe(machine, tour) else {}
+                for view in table:
+                    right = plain.right_stages(machine, tour, view)
+                    for told in (9, *(stage for stage in plain.stages(machine) if stage not in right)):
+                        reader = reader_by(machine, tour, {**table, view: told})
+                        self.gives("wrong", judged_reader, machine, reader)
+                        self.gives(told, lets_wrong, machine, reader, wrong_watch(machine, reader))
+
+    def test_other_tellings_end_the_looks(self):
+        # The number 5 is told at once, 0 is the least one told wrong, and behind it.
+        reader = (("look", 0, (1, 2)), ("tell", 5), ("look", 1, (3, 4)), ("tell", 0), ("tell", 2))
+        self.gives("wrong", judged_reader, MB, reader)
+        watch = wrong_watch(MB, reader)
+        self.assertIn(lets_wrong(MB, reader, watch), (0, 5))
+        far = (("look", 0, (1, 2)), ("tell", 0), ("look", 1, (3, 4)), ("tell", 1), ("tell", 2))
+        walk = ((2,), (((0,), 0), ((1,), 2), ((0,), 1)), ((0, 1), (1, 2)))
+        both = ((2, 2), tuple(((row[0], 0), stage) for row, stage in walk[1]), walk[2])
+        self.gives(((1,), (0, 0)), wrong_watch, both, (("look", 0, (1, 2)), ("tell", 7), ("look", 1, (3, 3)),
+                                                      ("tell", 0)))
+        self.gives("wrong", judged_reader, both, far)
+
     def test_none_is_right_for_what_is_not_readable(self):
         for machine, reader in CASES:
             if judged_reader(machine, reader) == "right":

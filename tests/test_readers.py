@@ -64,6 +64,7 @@ class Runs(Promises):
     def test_told_stages(self):
         self.gives((0, 7), told_stages, DIALS, GOOD)
         self.gives((), told_stages, DIALS, (("look", 0, (0, 0)),))
+        self.gives((1, 8, 16), told_stages, DIALS, (("tell", 16), ("tell", 8), ("tell", 1)))
         self.gives((3, 10 ** 69), told_stages, DIALS, (("tell", 10 ** 69), ("tell", 3), ("tell", 3)))
 
     def test_beside_plain_runs(self):

@@ -183,6 +183,14 @@ class Lives(Promises):
                     self.assertIn(found, pairs)
                     self.gives(plain.life_view(life, tour, found[0]), lets_two_looks, life, tour, found)
 
+    def test_what_comes_soonest_goes_on_best(self):
+        # The first look of the first watch at moment 0 has its like at moment 3 alone.
+        life = ((2, 3), (((0, 2), 0), ((1, 1), 0), ((1, 1), 1), ((0, 0), 1)))
+        self.gives(((1, 1), (2, 2)), two_looks, life, (0, 1))
+        for life in samples(random_life, 300, 9, seed=5):
+            for tour in ((0, len(life[0]) - 1), (len(life[0]) - 1, 0, len(life[0]) - 1)):
+                self.assertEqual(two_looks(life, tour) is None, not plain.two_looks(life, tour))
+
     def test_two_looks_are_found_among_many(self):
         life = ((12,) * 8, tuple(((place % 12, place // 12 % 12, place // 144) + (0,) * 5, place)
                                  for place in range(400)))
@@ -211,6 +219,7 @@ class Lives(Promises):
         self.rejects("stages", -1, lets_two_looks, BOTH, (0, 1), ((0, 0), (0, 0)))
         self.rejects("stages", -1, lets_two_looks, BOTH, (0, 1), ((0, 0), (0, 3)))
         self.rejects("stages", -1, lets_two_looks, BOTH, (0, 1), ((1, 3), (0, 0)))
+        self.rejects("stages", -1, lets_two_looks, BOTH, (0, 1), ((0, 3), (1, 3)))
         self.rejects("stages", -1, lets_two_looks, KEPT, (0,), ((0,), (1,)))
         self.gives((1,), lets_two_looks, ((2,), (((1,), 0), ((0,), 0), ((1,), 1))), (0,), ((0,), (2,)))
 

@@ -62,6 +62,7 @@ class Watches(Promises):
         self.gives((1, 2), stages_met, machine_of(KEPT), (2, 3, 4, 5))
         self.gives((0, 1, 2), stages_met, RM, (2, 0, 1, 2, 0))
         self.gives((3,), stages_met, MB, (3,))
+        self.gives((1, 8, 16), stages_met, ((2,), (((0,), 16), ((0,), 8), ((0,), 1)), ((0, 1), (1, 2))), (0, 1, 2))
         for walk in (None, (), (4,), (0, 2), (1, 0), [0], (True,), 0, "0"):
             self.refuses("walk", stages_met, MB, walk)
 
