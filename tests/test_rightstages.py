@@ -187,6 +187,9 @@ class Lives(Promises):
         # The first look of the first watch at moment 0 has its like at moment 3 alone.
         life = ((2, 3), (((0, 2), 0), ((1, 1), 0), ((1, 1), 1), ((0, 0), 1)))
         self.gives(((1, 1), (2, 2)), two_looks, life, (0, 1))
+        # What moment 0 has its like in comes ahead of what moment 1 has.
+        life = ((2, 3), (((0, 2), 0), ((1, 1), 0), ((0, 1), 1), ((1, 0), 1)))
+        self.gives(((0, 1), (2, 2)), two_looks, life, (0, 1))
         for life in samples(random_life, 300, 9, seed=5):
             for tour in ((0, len(life[0]) - 1), (len(life[0]) - 1, 0, len(life[0]) - 1)):
                 self.assertEqual(two_looks(life, tour) is None, not plain.two_looks(life, tour))
