@@ -3,6 +3,7 @@
 from stoodthen.errors import InvalidPaper
 from stoodthen.kinds import is_below, is_number, is_tuple_of
 from stoodthen.lifechecker import check_dials_and_spots, check_row
+from stoodthen.spotmasks import come_to
 
 
 def lets_machine(thing):
@@ -46,15 +47,7 @@ def spots_reached(moves):
     ahead = {}
     for here, there in moves:
         ahead.setdefault(here, []).append(there)
-    reached = {0: True}
-    waiting = [0]
-    while waiting:
-        spot = waiting.pop()
-        for there in ahead.get(spot, []):
-            if there not in reached:
-                reached[there] = True
-                waiting.append(there)
-    return reached
+    return come_to(ahead, [0], {})
 
 
 def is_machine(thing):

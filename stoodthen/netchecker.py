@@ -2,6 +2,7 @@
 
 from stoodthen.errors import InvalidPaper
 from stoodthen.kinds import is_below, is_integer, is_tuple_of
+from stoodthen.spotmasks import come_to
 
 
 def lets_net(thing):
@@ -47,15 +48,7 @@ def stages_hanging(ties):
     for one, other in ties:
         tied.setdefault(one, []).append(other)
         tied.setdefault(other, []).append(one)
-    hanging = {0: True}
-    waiting = [0]
-    while waiting:
-        stage = waiting.pop()
-        for other in tied.get(stage, []):
-            if other not in hanging:
-                hanging[other] = True
-                waiting.append(other)
-    return hanging
+    return come_to(tied, [0], {})
 
 
 def is_net(thing):

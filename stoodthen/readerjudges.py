@@ -4,7 +4,7 @@ from stoodthen.errors import InvalidPaper, need
 from stoodthen.kinds import is_tuple_of
 from stoodthen.readerchecker import is_reader
 from stoodthen.readerruns import told_stages
-from stoodthen.spotmasks import all_mask, first_in, mask_of, mask_without, places_in
+from stoodthen.spotmasks import all_mask, come_to, first_in, mask_of, mask_without, places_in
 from stoodthen.spotmasks import move_masks, show_masks, spread
 from stoodthen.strongparts import strong_parts
 from stoodthen.views import is_moments, is_walk_of, stages_met
@@ -101,21 +101,14 @@ def wrong_stage(machine, reader):
 
 
 def steps_to(reader, told):
-    """The list of the steps from which one may come to the telling of this number."""
-    before = [[] for _ in reader]
+    """A dict of the steps from which one may come to the telling of this number."""
+    before = {}
     for place, step in enumerate(reader):
         if step[0] == "look":
             for following in step[2]:
-                before[following].append(place)
-    waiting = [place for place, step in enumerate(reader) if step == ("tell", told)]
-    coming = {place: True for place in waiting}
-    while waiting:
-        here = waiting.pop()
-        for place in before[here]:
-            if place not in coming:
-                coming[place] = True
-                waiting.append(place)
-    return list(coming)
+                before.setdefault(following, []).append(place)
+    tells = [place for place, step in enumerate(reader) if step == ("tell", told)]
+    return come_to(before, tells, {})
 
 
 def wrong_watch(machine, reader):

@@ -1,4 +1,20 @@
-"""Lots of a machine's spots as integers, spot k as bit k, and ways among them."""
+"""What comes to what, and lots of a machine's spots as integers, spot k as bit k."""
+
+
+def come_to(ahead, starts, barred):
+    """A dict of the starts and of all that they come to, without what is barred.
+
+    ahead is a dict of lists of what comes next.
+    """
+    found = {start: True for start in starts}
+    waiting = list(starts)
+    while waiting:
+        here = waiting.pop()
+        for there in ahead.get(here, []):
+            if there not in found and there not in barred:
+                found[there] = True
+                waiting.append(there)
+    return found
 
 
 def places_in(mask):

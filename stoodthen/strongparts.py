@@ -3,6 +3,7 @@
 from stoodthen.errors import need
 from stoodthen.kinds import is_lot, is_row
 from stoodthen.machines import has_stage
+from stoodthen.spotmasks import come_to
 
 
 def strong_parts(machine):
@@ -28,8 +29,8 @@ def parts_ahead(machine, spots):
     parts = []
     for start in left_order(ahead, spots)[::-1]:
         if start not in part_of:
-            part = come_to(back, start, part_of)
-            parts.append(tuple(sorted(part)))
+            part = tuple(sorted(come_to(back, [start], part_of)))
+            parts.append(part)
             for spot in part:
                 part_of[spot] = True
     return parts
@@ -66,25 +67,12 @@ def left_order(ahead, spots):
     return left
 
 
-def come_to(moves, start, barred):
-    """The list of the spots that start comes to by the moves, without barred ones."""
-    found = {start: True}
-    waiting = [start]
-    while waiting:
-        spot = waiting.pop()
-        for there in moves[spot]:
-            if there not in found and there not in barred:
-                found[there] = True
-                waiting.append(there)
-    return list(found)
-
-
 def is_strong_part(machine, thing):
     """Whether thing is a strong part of the machine."""
     if not (is_lot(len(machine[1]), thing) and thing != ()):
         return False
     ahead, back = moves_among(machine, thing)
-    return all([len(come_to(moves, thing[0], {})) == len(thing) for moves in (ahead, back)])
+    return all([len(come_to(moves, thing[:1], {})) == len(thing) for moves in (ahead, back)])
 
 
 def carries(machine, part, row):
