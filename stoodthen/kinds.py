@@ -13,6 +13,11 @@ def is_number(thing):
     return is_integer(thing) and thing >= 0
 
 
+def is_stages(thing):
+    """Whether thing is an integer of at least 1, as a number of stages is."""
+    return is_integer(thing) and thing >= 1
+
+
 def is_below(thing, bound):
     """Whether thing is a number below bound."""
     return is_number(thing) and thing < bound
@@ -33,9 +38,14 @@ def is_size(thing):
     return is_integer(thing) and thing >= 2
 
 
+def is_sizes(thing):
+    """Whether thing is a tuple, possibly (), of sizes."""
+    return isinstance(thing, tuple) and all([is_size(size) for size in thing])
+
+
 def is_dials(thing):
     """Whether thing is a tuple, not (), of sizes."""
-    return is_filled_tuple(thing) and all([is_size(size) for size in thing])
+    return is_sizes(thing) and thing != ()
 
 
 def is_row(dials, thing):

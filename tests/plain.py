@@ -223,3 +223,129 @@ def cut_marks(life, tour, gap):
         else:
             marks.append("clash")
     return tuple(marks)
+
+
+def cuts_of(sizes):
+    return tuple(product(sizes[:h]) + product(sizes[h:]) - 1 for h in range(1, len(sizes)))
+
+
+def least_cut(sizes):
+    return min(cuts_of(sizes), default=product(sizes))
+
+
+def best_cut(sizes):
+    return max(least_cut(order) for order in itertools.permutations(sizes))
+
+
+def choices(dials):
+    """All choices: the looks, what is held, and the choice itself."""
+    found = []
+    for many in range(len(dials) + 1):
+        for outer in itertools.permutations(range(len(dials)), many):
+            others = [dial for dial in range(len(dials)) if dial not in outer]
+            for more in range(len(others) + 1):
+                for inner in itertools.permutations(others, more):
+                    held = product([dials[dial] for dial in outer]) * least_cut([dials[dial] for dial in inner])
+                    found.append((2 * many + more, held, (outer, inner)))
+    return found
+
+
+def counted_row(sizes, count):
+    row = []
+    for place, size in enumerate(sizes):
+        whole = count // product(sizes[place + 1:])
+        left = whole % size
+        row.append(left if whole // size % 2 == 0 else size - 1 - left)
+    return tuple(row)
+
+
+def mesh(inner):
+    """The pairs of the left and the right count, stage by stage."""
+    cuts = cuts_of(inner)
+    gap = cuts.index(min(cuts)) + 1
+    lefts, rights, near, far = product(inner[:gap]), product(inner[gap:]), inner[gap - 1], inner[gap]
+    left = right = 0
+    pairs = [(0, 0)]
+    while (left, right) != (lefts - 1, rights - 1):
+        ahead = right + 1
+        if ahead < rights and left == min(ahead * near, lefts - 1 - (rights - 1 - ahead) // far):
+            right = ahead
+        else:
+            left += 1
+        pairs.append((left, right))
+    return pairs
+
+
+def nest_rows(outer, inner):
+    """The rows of the life of a nest, laid out copy by copy and step by step."""
+    if outer:
+        rest = nest_rows(outer[1:], inner)
+        sizes = outer[1:] + inner
+        shift = [last - first for first, last in zip(rest[0], rest[-1])]
+        return [(copy, *[(value + copy * more) % size for value, more, size in zip(row, shift, sizes)])
+                for copy in range(outer[0]) for row in rest]
+    if len(inner) < 2:
+        return [(value,) for value in range(inner[0])] if inner else [()]
+    cuts = cuts_of(inner)
+    gap = cuts.index(min(cuts)) + 1
+    return [counted_row(inner[:gap], left) + counted_row(inner[gap:][::-1], right)[::-1] for left, right in mesh(inner)]
+
+
+def nest_tour(nest):
+    outer, inner = nest
+    dials = list(range(len(outer) + len(inner)))
+    return tuple(dials + dials[:len(outer)][::-1])
+
+
+def views_by_life(life, tour):
+    """A dict with, for each view of a watch of the life, the set of pairs of the stages it begins and ends with."""
+    times = [((row,), stage, stage) for row, stage in life[1]]
+    return views_by_times(times, tour)
+
+
+def weak_views(life, tour):
+    """As views_by_life, for a lean life over weak dials: a look may fall within a turn."""
+    times = []
+    for (row, stage), (ahead, _) in zip(life[1], life[1][1:]):
+        times += [((row,), stage, stage), ((row, ahead), stage, stage + 1)]
+    return views_by_times([*times, ((life[1][-1][0],), len(life[1]) - 1, len(life[1]) - 1)], tour)
+
+
+def views_by_times(times, tour):
+    """As views_by_life, by times with the rows that may be seen, and the first and the last stage that stand."""
+    if not tour:
+        return {(): {(first, last) for _, first, last in times}}
+    states = {((), first, time) for time, (_, first, _) in enumerate(times)}
+    for place, dial in enumerate(tour):
+        shown = [{row[dial] for row in rows} for rows, _, _ in times]
+        states = {((*seen, value), first, later) for seen, first, time in states
+                  for later in (range(time, len(times)) if place else (time,)) for value in shown[later]}
+    found = {}
+    for seen, first, time in states:
+        found.setdefault(seen, set()).add((first, times[time][2]))
+    return found
+
+
+def right_for(spans, stages_many):
+    """The stages that are met by each of the watches from a first to a last stage."""
+    return tuple(stage for stage in range(stages_many) if all(first <= stage <= last for first, last in spans))
+
+
+def hangs(net, lot):
+    """Whether the stages of the lot hang together by the ties within it."""
+    found, waiting = set(lot[:1]), list(lot[:1])
+    while waiting:
+        here = waiting.pop()
+        for tie in net[1]:
+            for one, other in (tie, tie[::-1]):
+                if one == here and other in lot and other not in found:
+                    found.add(other)
+                    waiting.append(other)
+    return len(found) == len(lot)
+
+
+def blocks_of(net):
+    """The greatest lots that hang together, also without any one stage."""
+    firm = [lot for lot in lots(range(net[0])) if len(lot) > 1 and hangs(net, lot) and
+            all(hangs(net, tuple(stage for stage in lot if stage != out)) for out in lot)]
+    return tuple(sorted(lot for lot in firm if not any(set(lot) < set(other) for other in firm)))

@@ -1,5 +1,6 @@
 """Values that several tests use, and what they ask in the same way."""
 
+import itertools
 import random
 import unittest
 
@@ -7,6 +8,7 @@ from stoodthen.errors import InvalidPaper, InvalidRow, InvalidText, NotUsable
 from stoodthen.lifechecker import lets_life
 from stoodthen.machinechecker import lets_machine
 from stoodthen.machines import machine_by, machine_of
+from tests import plain
 
 TWO = ((2, 2), (((0, 0), 0), ((1, 0), 1), ((1, 1), 2)))
 BOTH = ((2, 2), (((0, 0), 0), ((0, 1), 1), ((1, 1), 2), ((1, 0), 3)))
@@ -21,8 +23,27 @@ MB = machine_of(BOTH)
 MT = machine_of(TWO)
 RM = machine_by(RING, (2, 2, 2), ((1, 0, 0), (0, 1, 0), (0, 0, 1)))
 
+NEST = ((2,), (2,))
+
 WIDE = (2,) * 199
 HUGE = (10 ** 60,)
+# The most dials, and the greatest sizes.
+WIDE_NESTS = (
+    (WIDE, ()), ((), WIDE), ((2,) * 100, (2,) * 99), ((7,) * 30, (3,) * 60), ((3, 2) * 20, (5, 2, 3) * 20),
+    ((10 ** 30,), (10 ** 10,) * 3), (HUGE, ()), ((), HUGE), ((10 ** 29, 2), (5, 10 ** 30)),
+)
+
+
+def tuples_of(values, most):
+    """All tuples of at most so many of the values."""
+    return [row for many in range(most + 1) for row in itertools.product(values, repeat=many)]
+
+
+# Nests of so few stages that they are laid out.
+SMALL_NESTS = [(outer, inner) for outer in tuples_of((2, 3), 2) for inner in tuples_of((2, 3), 3)
+               if outer + inner and plain.product(outer + inner) <= 110]
+SMALL_NESTS += [((), (4, 5)), ((), (6, 2, 5)), ((), (2, 7, 3, 2)), ((5,), (4, 3)), ((4, 5), ()), ((3,), (2, 5, 2)),
+                ((), (12, 12)), ((2, 2, 2), (2, 2)), ((2, 3, 4), ()), ((), (2,) * 7), ((), (9,)), ((7,), (8,))]
 
 # What "any value" may be: no two of these are of one kind and form.
 ODD = (
@@ -32,17 +53,8 @@ ODD = (
 )
 
 
-def counted_row(sizes, count):
-    """The row of a count to and fro, each next one with just one value changed by one."""
-    row = []
-    for size in reversed(sizes):
-        count, value = divmod(count, size)
-        row.append(value if count % 2 == 0 else size - 1 - value)
-    return tuple(reversed(row))
-
-
 def counted_life(sizes, many):
-    return (sizes, tuple((counted_row(sizes, count), count) for count in range(many)))
+    return (sizes, tuple((plain.counted_row(sizes, count), count) for count in range(many)))
 
 
 def random_row(rng, dials):

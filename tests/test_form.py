@@ -23,6 +23,8 @@ LET_METHODS = set("""append clear copy count endswith extend find get index inse
     islower isspace isupper items join keys ljust lower lstrip partition pop remove replace reverse rfind
     rjust rpartition rsplit rstrip setdefault split splitlines startswith strip update upper values zfill
     bit_length isascii isdecimal isnumeric removeprefix removesuffix""".split())
+# L2, as far as the package uses it.
+LET_LIBRARY = {"math": ("comb", "factorial")}
 # L17.
 NEVER_NAMES = {"register", "mro", "elements", "open", "input", "law", "version_info", "with_traceback", "add_note"}
 NEVER_WORDS = {
@@ -142,6 +144,9 @@ class Form(unittest.TestCase):
                 self.assertNotIsInstance(node, ast.Import)
                 if isinstance(node, ast.ImportFrom):
                     self.assertEqual(node.level, 0)
+                    if node.module in LET_LIBRARY:
+                        self.only_called(tree, node)
+                        continue
                     package, _, module = node.module.partition(".")
                     self.assertEqual(package, "stoodthen")
                     edges[name].append(module + ".py")
@@ -158,6 +163,18 @@ class Form(unittest.TestCase):
             self.assertTrue(free, "files import each other in a ring")
             for name in free:
                 del edges[name]
+
+    def only_called(self, tree, node):
+        parents = parents_of(tree)
+        for alias in node.names:
+            self.assertIsNone(alias.asname)
+            self.assertIn(alias.name, LET_LIBRARY[node.module])
+            uses = [part for part in ast.walk(tree) if isinstance(part, ast.Name) and part.id == alias.name]
+            self.assertTrue(uses)
+            for part in uses:
+                self.assertIsInstance(parents[part], ast.Call)
+                self.assertIs(parents[part].func, part)
+                self.assertEqual(parents[part].keywords, [])
 
     def test_statements_and_expressions(self):
         barred = (

@@ -46,12 +46,48 @@ FUNCTIONS = {
             " tour_bound(dials, tour), tight_gap(dials, tour), nested_form(dials, tour)",
     "cutpapers": "kept_moments(life, tour, gap), cut_marks(life, tour, gap), clash_at(life, tour, gap),"
                  " lets_cut(life, tour, gap, thing)",
+    "leastcuts": "cuts_of(sizes), least_cut(sizes), cut_gap(sizes)",
+    "orders": "middle_of(sizes), best_cut(sizes), best_order(sizes)",
+    "looknumbers": "most_held(dials, looks), best_tour(dials, looks), fewest_looks(dials, stages),"
+                   " looks_for_all(dials), to_and_fro(dials)",
+    "bitnumbers": "bits_held(many, looks), bits_for(stages, further)",
+    "nestkinds": "is_nest(thing), nest_dials(nest), nest_tour(nest), nest_held(nest), nest_by(dials, outer, inner),"
+                 " placed_row(dials, outer, inner, row)",
+    "offbounds": "off_bound(dials, tour, off), off_held(dials, looks, off), off_line(dials, off),"
+                 " off_least(dials, looks, stages)",
+    "toandfro": "counted_row(sizes, count), count_by(sizes, row), turned_place(sizes, count),"
+                " place_turns(sizes, place)",
+    "showncounts": "next_count(sizes, place, value, count), last_count(sizes, place, value, count)",
+    "meshes": "halves_of(inner), right_comes(inner, right), rights_ahead(inner, left), counts_at(inner, stage),"
+              " left_begins(inner, left), right_begins(inner, right)",
+    "cores": "core_row(inner, stage), core_stage(inner, row)",
+    "nestrows": "row_at(nest, stage), stage_by(nest, row), shift_of(nest)",
+    "nestturns": "turn_at(nest, stage), nest_turns(nest, dial), off_row(nest, off, stage)",
+    "nestlives": "life_by(nest, many)",
+    "returns": "return_of(life), return_watches(life, dial, here, there)",
+    "longest": "is_longest(life), due_turns(dials), is_due(life)",
+    "pairlives": "pair_many(one, other), pair_life(firsts, seconds, word), pair_parts(life), pair_lives(one, other)",
+    "shows": "next_show(nest, dial, value, stage), last_show(nest, dial, value, stage)",
+    "viewspans": "first_end(nest, view), last_begin(nest, view)",
+    "toldanswers": "is_seen(nest, view), right_span(nest, view), told_stage(nest, view)",
+    "lifespans": "early_moments(life, tour, view), late_moments(life, tour, view), life_span(life, tour, view)",
+    "answerpapers": "answer_paper(life, tour, view), lets_answer(life, tour, view, thing)",
+    "weaktold": "weak_stage(nest, view), weak_first(nest, view)",
+    "offtold": "off_span(nest, off, view), off_stage(nest, off, view)",
+    "treereaders": "reader_by(dials, tour, table), nest_reader(nest), seen_table(nest)",
+    "blocks": "blocks_of(net), block_ties(net, block), blocks_at(net, stage), hinges_of(net)",
 }
 CLASSES = {
     "lifeclasses": ("Life(dials, spots)", "lean(), stages(), stage(moment), back(), cut(many), told()"),
     "lookclasses": ("Looks(machine, tour)", "views(), right(view), safe(), torn(), table(), met(walk)"),
+    "cutclasses": ("Cut(dials, tour)", "gaps(), bound(gap), least(), tight(), nested(), marks(life, gap)"),
+    "codeclasses": ("Code(outer, inner)",
+                    "held(), row(stage), stage(row), turn(stage), shift(), turns(dial), life(many), grown(size)"),
+    "tellclasses": ("Teller(outer, inner)",
+                    "told(view), span(view), seen(view), weak(view), near(off, view), reader()"),
 }
-OWN_METHODS = {"Life": ("__eq__", "__len__"), "Looks": ("__eq__",)}
+OWN_METHODS = {"Life": ("__eq__", "__len__"), "Looks": ("__eq__",), "Cut": ("__eq__",), "Code": ("__eq__",),
+               "Teller": ("__eq__",)}
 
 
 def parts(text):

@@ -4,10 +4,12 @@ import itertools
 import unittest
 
 from stoodthen import (
-    avoidpapers, cutpapers, gaps, kinds, lifechanges, lifeclasses, lifetexts, lives, lookclasses, machines, nets,
-    nettexts, readables, readerjudges, readerruns, rightstages, rowtools, seenviews, strongparts, twolooks, views,
-    watchchecker)
-from tests.samples import BOTH, MB, ODD, RING, ROW, Promises
+    answerpapers, avoidpapers, bitnumbers, blocks, codeclasses, cores, cutclasses, cutpapers, gaps, kinds,
+    lifechanges, lifeclasses, lifespans, lifetexts, lives, lookclasses, looknumbers, machines, meshes, nestkinds,
+    nestlives, nestrows, nestturns, nets, nettexts, offbounds, offtold, pairlives, readables, readerjudges,
+    readerruns, returns, rightstages, rowtools, seenviews, showncounts, shows, strongparts, tellclasses, toandfro,
+    toldanswers, treereaders, twolooks, views, viewspans, watchchecker, weaktold)
+from tests.samples import BOTH, KITE, MB, NEST, ODD, RING, ROW, Promises
 
 DIALS = (2, 2)
 READER = (("look", 0, (1, 2)), ("tell", 0), ("tell", 3))
@@ -82,6 +84,73 @@ CALLS = [
     (cutpapers.kept_moments, (BOTH,), {"tour": (0, 1), "gap": 1}),
     (cutpapers.cut_marks, (BOTH,), {"tour": (0, 1), "gap": 1}),
     (cutpapers.clash_at, (BOTH,), {"tour": (0, 1), "gap": 1}),
+    (looknumbers.most_held, (DIALS,), {"looks": 2}),
+    (looknumbers.best_tour, (DIALS,), {"looks": 2}),
+    (looknumbers.fewest_looks, (DIALS,), {"stages": 3}),
+    (bitnumbers.bits_held, (3,), {"looks": 2}),
+    (bitnumbers.bits_for, (), {"stages": 5, "further": 1}),
+    (nestkinds.nest_by, (DIALS,), {"outer": (1,), "inner": (0,)}),
+    (nestkinds.placed_row, (DIALS,), {"outer": (1,), "inner": (0,), "row": (0, 1)}),
+    (offbounds.off_bound, (DIALS,), {"tour": (0, 1), "off": 1}),
+    (offbounds.off_held, (DIALS,), {"looks": 2, "off": 1}),
+    (offbounds.off_line, (DIALS,), {"off": 1}),
+    (offbounds.off_least, (DIALS,), {"looks": 2, "stages": 5}),
+    (cutclasses.Cut, (), {"dials": DIALS, "tour": (0, 1)}),
+    (cutclasses.Cut(DIALS, (0, 1)).bound, (), {"gap": 1}),
+    (cutclasses.Cut(DIALS, (0, 1)).marks, (), {"life": BOTH, "gap": 1}),
+    (toandfro.counted_row, ((2, 3),), {"count": 4}),
+    (toandfro.count_by, ((2, 3),), {"row": (1, 1)}),
+    (toandfro.turned_place, ((2, 3),), {"count": 3}),
+    (toandfro.place_turns, ((2, 3),), {"place": 1}),
+    (showncounts.next_count, ((2, 3),), {"place": 1, "value": 0, "count": 1}),
+    (showncounts.last_count, ((2, 3),), {"place": 1, "value": 2, "count": 5}),
+    (meshes.right_comes, (DIALS,), {"right": 1}),
+    (meshes.rights_ahead, (DIALS,), {"left": 1}),
+    (meshes.counts_at, (DIALS,), {"stage": 1}),
+    (meshes.left_begins, (DIALS,), {"left": 1}),
+    (meshes.right_begins, (DIALS,), {"right": 1}),
+    (cores.core_row, (DIALS,), {"stage": 1}),
+    (cores.core_stage, (DIALS,), {"row": (1, 1)}),
+    (nestrows.row_at, (NEST,), {"stage": 1}),
+    (nestrows.stage_by, (NEST,), {"row": (1, 1)}),
+    (nestturns.turn_at, (NEST,), {"stage": 1}),
+    (nestturns.nest_turns, (NEST,), {"dial": 1}),
+    (nestturns.off_row, (NEST,), {"off": 1, "stage": 11}),
+    (nestlives.life_by, (NEST,), {"many": 4}),
+    (returns.return_watches, (BOTH,), {"dial": 1, "here": 0, "there": 3}),
+    (pairlives.pair_many, (), {"one": 2, "other": 3}),
+    (pairlives.pair_life, (), {"firsts": (1, 0), "seconds": (0, 1), "word": (1, 0)}),
+    (codeclasses.Code, (), {"outer": (2,), "inner": (2,)}),
+    (codeclasses.Code(*NEST).row, (), {"stage": 1}),
+    (codeclasses.Code(*NEST).stage, (), {"row": (1, 1)}),
+    (codeclasses.Code(*NEST).turn, (), {"stage": 1}),
+    (codeclasses.Code(*NEST).turns, (), {"dial": 1}),
+    (codeclasses.Code(*NEST).life, (), {"many": 4}),
+    (codeclasses.Code(*NEST).grown, (), {"size": 2}),
+    (shows.next_show, (NEST,), {"dial": 1, "value": 0, "stage": 1}),
+    (shows.last_show, (NEST,), {"dial": 1, "value": 0, "stage": 1}),
+    (viewspans.first_end, (NEST,), {"view": (0, 1, 1)}),
+    (viewspans.last_begin, (NEST,), {"view": (0, 1, 1)}),
+    (toldanswers.is_seen, (NEST,), {"view": (0, 1, 1)}),
+    (toldanswers.right_span, (NEST,), {"view": (0, 1, 1)}),
+    (toldanswers.told_stage, (NEST,), {"view": (0, 1, 1)}),
+    (lifespans.early_moments, (BOTH,), {"tour": (0, 1), "view": (0, 1)}),
+    (lifespans.late_moments, (BOTH,), {"tour": (0, 1), "view": (0, 1)}),
+    (lifespans.life_span, (BOTH,), {"tour": (0, 1), "view": (0, 1)}),
+    (answerpapers.answer_paper, (BOTH,), {"tour": (0, 1), "view": (0, 1)}),
+    (weaktold.weak_stage, (NEST,), {"view": (0, 1, 1)}),
+    (weaktold.weak_first, (NEST,), {"view": (0, 1, 1)}),
+    (offtold.off_span, (NEST,), {"off": 1, "view": (0, 1, 1)}),
+    (offtold.off_stage, (NEST,), {"off": 1, "view": (0, 1, 1)}),
+    (treereaders.reader_by, (DIALS,), {"tour": (0, 1), "table": (((1, 0), 4),)}),
+    (tellclasses.Teller, (), {"outer": (2,), "inner": (2,)}),
+    (tellclasses.Teller(*NEST).told, (), {"view": (0, 1, 1)}),
+    (tellclasses.Teller(*NEST).span, (), {"view": (0, 1, 1)}),
+    (tellclasses.Teller(*NEST).seen, (), {"view": (0, 1, 1)}),
+    (tellclasses.Teller(*NEST).weak, (), {"view": (0, 1, 1)}),
+    (tellclasses.Teller(*NEST).near, (), {"off": 1, "view": (0, 1, 1)}),
+    (blocks.block_ties, (KITE,), {"block": 1}),
+    (blocks.blocks_at, (KITE,), {"stage": 2}),
 ]
 # Checkers: their thing is refused by InvalidPaper, the parameters ahead of it by NotUsable.
 CHECKERS = [
@@ -90,6 +159,7 @@ CHECKERS = [
     (twolooks.lets_two_looks, (BOTH,), {"tour": (0, 1)}, ((0, 0), (1, 3))),
     (readerjudges.lets_wrong, (MB,), {"reader": READER}, ((1,), (0,))),
     (cutpapers.lets_cut, (BOTH,), {"tour": (0, 1, 0), "gap": 1}, ("first", "gone", "first", "gone")),
+    (answerpapers.lets_answer, (BOTH,), {"tour": (0, 1), "view": (0, 1)}, ((0, 1), (1, 2))),
 ]
 # Values of no kind that any of these parameters asks for.
 NEVER = (None, True, False, -1, -(10 ** 69), [], [()], [0], (None,), ((),), (True,), ([0],), (-1,), [[[[[]]]]])
