@@ -55,8 +55,9 @@ def rights_ahead(inner, left):
 def right_with(halves, left):
     """As rights_ahead, told by the halves."""
     lefts, rights, near, far = halves
-    # The right count has come to j if one of the two numbers of left_with is below left.
-    by_near = min((left - 1) // near, rights - 1)
+    # The right count has come to j if one of the two numbers of left_with is below left. As
+    # the gap is that of the least cut, neither tells of more right counts than there are.
+    by_near = (left - 1) // near
     by_far = rights - 1 - (lefts - left) * far
     return max(by_near, by_far, 0)
 

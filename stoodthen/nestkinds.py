@@ -36,8 +36,8 @@ def nest_held(nest):
 def need_places(dials, outer, inner):
     """Refuse what are no outer and inner dials of a nest among the dials."""
     need(is_tour(dials, outer) and len(set(outer)) == len(outer), "outer")
-    need(is_tour(dials, inner) and len(set(inner)) == len(inner), "inner")
-    need(outer + inner != () and len(set(outer + inner)) == len(outer) + len(inner), "inner")
+    need(is_tour(dials, inner) and outer + inner != (), "inner")
+    need(len(set(outer + inner)) == len(outer) + len(inner), "inner")
 
 
 def nest_by(dials, outer, inner):

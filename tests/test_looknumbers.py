@@ -86,6 +86,10 @@ class Choices(Promises):
             tour = to_and_fro(dials)
             self.assertEqual(len(tour), looks)
             self.gives(plain.product(dials), tour_bound, dials, tour)
+            if plain.product(dials) <= 30:
+                life = life_by((dials[:-1], dials[-1:]), plain.product(dials))
+                self.assertEqual(len({row for row, _ in life[1]}), plain.product(dials))
+                self.gives(True, is_safe, machine_of(life), tour)
         self.gives((0,), to_and_fro, (5,))
         self.gives((0, 1, 0), to_and_fro, (2, 2))
         self.gives(397, looks_for_all, WIDE)

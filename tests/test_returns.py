@@ -209,16 +209,15 @@ class PairLives(Promises):
         self.gives(((2, 0, 1), (3, 1, 0, 2), (1, 0, 1, 1, 0)), pair_parts, life)
 
     def test_no_parts(self):
-        long = tuple(range(7))
         for life in (BOTH, STILL, KEPT, ((2, 2), (((0, 0), 0),)), ((2, 2), (((0, 0), 0), ((0, 1), 1))),
                      ((2, 2), (((0, 0), 0), ((1, 1), 1))), ((2, 2), (((0, 0), 0), ((0, 1), 1), ((0, 0), 2))),
                      ((2, 2, 2), (((0, 0, 0), 0), ((0, 1, 0), 1), ((1, 1, 0), 2))),
                      ((3, 2), (((0, 0), 0), ((1, 0), 1), ((0, 0), 2), ((0, 1), 3))),
                      ((2, 3), (((0, 0), 0), ((0, 1), 1), ((0, 0), 2), ((1, 0), 3))),
                      life_by(((), (7, 2)), 8), life_by(((), (2, 7)), 8), life_by(((), (7,)), 7),
-                     ((2, 2), (((0, 0), 0), ((1, 0), 0), ((1, 1), 1)))):
+                     ((2, 2), (((0, 0), 0), ((1, 0), 0), ((1, 1), 1))),
+                     ((3, 2), TWO[1]), ((2, 3), TWO[1]), ((3, 3), TWO[1])):
             self.refuses("life", pair_parts, life)
-        self.assertEqual(len(long), 7)
         for dials, many in (((2, 2), 3), ((3, 2), 4), ((2, 2), 4)):
             for life in lean_lives(dials, many):
                 if two_looks(life, (0, 1)) is not None:
@@ -234,8 +233,10 @@ class PairLives(Promises):
             self.refuses("firsts", pair_life, wrong, wrong, None)
             self.refuses("seconds", pair_life, (0, 1, 2), wrong, None)
         for wrong in (None, 0, (), (0, 0), (0, 0, 1, 1), (0, 1, 1), (0, 0, 0), (False, 0, 1), (0, 0, True), [0, 0, 1],
-                      (0, 0, 2), (0, 2, -1), (0, 0, 1, 0), "001", (0, 0, None)):
+                      (0, 0, 2), (0, 2, -1), (1, 1, -1), (0, 0, 1, 0), "001", (0, 0, None)):
             self.refuses("word", pair_life, (0, 1, 2), (1, 0), wrong)
+        self.refuses("word", pair_life, (1, 0), (0, 1, 2), (0, 0, 2))
+        self.refuses("word", pair_life, (1, 0), (0, 1, 2), (1, 0, 0))
 
     def test_errors_come_with_the_first_one(self):
         lives = pair_lives(None, None)
