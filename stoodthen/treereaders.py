@@ -49,5 +49,6 @@ def nest_reader(nest):
 def seen_table(nest):
     """The pairs of each view that is seen and the stage told for it, by views."""
     dials = nest_dials(nest)
-    views = [view for view in all_rows([dials[dial] for dial in nest_tour(nest)]) if is_seen(nest, view)]
+    sizes = [dials[dial] for dial in nest_tour(nest)]
+    views = [view for view in all_rows(sizes) if is_seen(nest, view)]
     return tuple([(view, told_stage(nest, view)) for view in views])

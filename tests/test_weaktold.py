@@ -3,17 +3,20 @@
 import unittest
 
 from stoodthen.errors import Unseen
+from stoodthen.looknumbers import to_and_fro
 from stoodthen.machines import machine_of, stepping_back, weakened
 from stoodthen.nestkinds import nest_dials, nest_held, nest_tour
 from stoodthen.nestrows import row_at
-from stoodthen.rightstages import right_stages
+from stoodthen.readables import is_readable, sweep_tour
+from stoodthen.rightstages import is_safe, right_stages
 from stoodthen.rowtools import all_rows
 from stoodthen.seenviews import views_of
+from stoodthen.toandfro import counted_row
 from stoodthen.toldanswers import is_seen, told_stage
 from stoodthen.weaktold import weak_first, weak_stage
 from tests import plain
 from tests.samples import (
-    HUGE, NEST, SMALL_NESTS, WIDE, WIDE_NESTS, Promises, random_lean_life, random_tour, samples)
+    HUGE, NEST, SMALL_NESTS, WIDE, WIDE_NESTS, Promises, random_lean_life, random_tour, samples, tuples_of)
 
 VIEWED = [nest for nest in SMALL_NESTS if plain.product(nest[0]) ** 2 * plain.product(nest[1]) <= 150]
 
@@ -172,6 +175,25 @@ class Weak(Promises):
                 right = self.views_and_right(stepping_back(nest_dials(nest), rows, 1), nest_tour(nest))
                 for view, stages in right.items():
                     self.assertIn(weak_stage(nest, view), stages)
+
+    def test_readable_with_one_step_back_if_no_row_stands_twice(self):
+        swept = 0
+        for life in samples(random_lean_life, 200):
+            dials = life[0]
+            rows = tuple(row for row, _ in life[1])
+            back = stepping_back(dials, rows, 1)
+            once = len(set(rows)) == len(rows)
+            self.gives(once, is_readable, back)
+            if once and plain.product(dials) ** (len(rows) - 1) <= 700:
+                swept += 1
+                self.gives(True, is_safe, back, sweep_tour(dials, len(rows) - 1))
+        self.assertGreater(swept, 30)
+
+    def test_counted_rows_with_one_step_back(self):
+        for dials in [dials for dials in tuples_of((2, 3, 4), 3) if dials]:
+            rows = tuple(counted_row(dials, count) for count in range(plain.product(dials)))
+            if len(rows) <= 36:
+                self.gives(True, is_safe, stepping_back(dials, rows, 1), to_and_fro(dials))
 
     def test_answers_fall_back_by_one_stage_at_most(self):
         for nest in (NEST, ((2, 2), ()), ((3,), (2,)), ((2,), (2, 2)), ((2, 2), (2,))):
