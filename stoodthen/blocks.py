@@ -38,10 +38,19 @@ def tie_of(one, other):
 
 def block_ties(net, block):
     """The ties within the block, ascending."""
+    return ties_within(net, block_at(net, block))
+
+
+def block_at(net, block):
+    """The lot of the stages of the block with this place."""
     blocks = blocks_of(net)
     need(is_below(block, len(blocks)), "block")
-    stages = blocks[block]
-    return tuple([tie for tie in net[1] if tie[0] in stages and tie[1] in stages])
+    return blocks[block]
+
+
+def ties_within(net, lot):
+    """The ties between stages of the lot, ascending."""
+    return tuple([tie for tie in net[1] if tie[0] in lot and tie[1] in lot])
 
 
 def blocks_at(net, stage):

@@ -44,11 +44,16 @@ def first_apart(size, ties):
 
 def stages_hanging(ties):
     """A dict with each stage that hangs on 0."""
+    return come_to(tied_lists(ties), [0], {})
+
+
+def tied_lists(ties):
+    """A dict with, for each stage that has ties, the list of the stages tied to it."""
     tied = {}
     for one, other in ties:
         tied.setdefault(one, []).append(other)
         tied.setdefault(other, []).append(one)
-    return come_to(tied, [0], {})
+    return tied
 
 
 def is_net(thing):

@@ -1,5 +1,6 @@
 """The definitions of the document gone through plainly, for small values."""
 
+import functools
 import itertools
 
 
@@ -344,6 +345,7 @@ def hangs(net, lot):
     return len(found) == len(lot)
 
 
+@functools.lru_cache(maxsize=None)
 def blocks_of(net):
     """The greatest lots that hang together, also without any one stage."""
     firm = [lot for lot in lots(range(net[0])) if len(lot) > 1 and hangs(net, lot) and

@@ -16,6 +16,13 @@ RING = (3, ((0, 1), (0, 2), (1, 2)))
 ROW = (3, ((0, 1), (1, 2)))
 KITE = (4, ((0, 1), (0, 2), (1, 2), (2, 3)))
 POINT = (1, ())
+PAIR = (2, ((0, 1),))
+SQUARE = (4, ((0, 1), (0, 3), (1, 2), (2, 3)))
+STAR = (4, ((0, 1), (0, 2), (0, 3)))
+# Two rings with a hinge; a ring with a tie between two blocks; a ring through which a tie goes.
+BOW = (5, ((0, 1), (0, 2), (1, 2), (2, 3), (2, 4), (3, 4)))
+HANDLE = (5, ((0, 1), (1, 2), (1, 3), (2, 3), (3, 4)))
+CHORD = (4, ((0, 1), (0, 2), (0, 3), (1, 2), (2, 3)))
 # One spot; the same rows twice; a stage of several spots; a dial that jumps.
 STILL = ((3,), (((2,), 0),))
 KEPT = ((2, 3), (((0, 0), 0), ((0, 2), 0), ((1, 2), 1), ((1, 2), 1), ((0, 1), 2), ((0, 0), 2)))

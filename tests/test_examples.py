@@ -183,6 +183,51 @@ EXAMPLES = """
 >>> KITE = (4, ((0, 1), (0, 2), (1, 2), (2, 3)))
 >>> (blocks_of(KITE), hinges_of(KITE))
 (((0, 1, 2), (2, 3)), (2,))
+
+>>> (gates_of(KITE, 3), behind(KITE, 0, 2))
+((2, 3), (2, 3))
+
+>>> (regions_of(KITE, (1,)), region_of(KITE, (0, 1), 3))
+(((0, 1, 2), (3,)), 3)
+
+>>> lets_holding(KITE, (2, 2, 2, 4), (("ties", (2, 1, 0)), ("dial", 3)))
+(0, 0, 0, 2)
+
+>>> (deals_many(ROW, (3, 2)), dealing_of(RING, (2, 2, 2)), mixed_of(RING, (2, 2)))
+(3, None, None)
+
+>>> LINED = ((0, 0), (1, 0), (1, 1))
+>>> (parting_dials(ROW, (2, 2), LINED), handed_told(ROW, (2, 2), LINED, (0, 1)))
+(((0,), (1,)), 0)
+>>> bare_row(RING, (2, 2), LINED)
+(1, 0)
+
+>>> TIED = (("ties", (0, 1, 2)),)
+>>> (rows_at(RING, (2, 2, 2), TIED, 1), passed_row(RING, (2, 2, 2), TIED, (1, 0, 0), 1, 2))
+(((0, 1, 1), (1, 0, 0)), (1, 0, 1))
+
+>>> (sinks_of(ROW, (0, 2)), told_gates(RING, (2, 2, 2), TIED, (1, 1, 1)))
+((0, 2), (0,))
+
+>>> (tight_many(ROW, (2, 2)), tight_parts(RING, (3,), ((2,), (0,), (1,))))
+(8, ((0,), ((2, 0, 1),)))
+
+>>> beating(RING, (2, 2), LINED, (("look", 1, (1, 1)), ("tell", 1)))
+('told', (0,), (0,))
+
+>>> Undo(ROW, (3,), (("dial", 0),) * 2).hung(2, ROW, (3,), (("dial", 0),) * 2).rows(3)
+((2, 1),)
+
+>>> from stoodthen.weakruns import line_reason, dial_shows
+>>> (line_reason(((), (2,)), 1, (("begin",),), ("go",)), dial_shows(((), (2,)), (("begin",),), 0, "new"))
+('turning', 1)
+
+>>> from stoodthen.lineruns import line_run, stood_between
+>>> EARLY = (("go",), ("begin",), ("look", 0, "new"), ("look", 0, "new"), ("look", 0, "old"), ("end",))
+>>> line_run(((2,), (2,)), 1, EARLY)
+((0, 2, 4, (1, 1, 0), 2),)
+>>> stood_between(((2,), (2,)), EARLY, 0, 4)
+(1, 2)
 """
 
 
@@ -202,12 +247,12 @@ class Examples(Promises):
         example = doctest.DocTestParser().get_doctest(EXAMPLES, interface(), "DOC.md", None, 0)
         result = doctest.DocTestRunner(verbose=False).run(example, out=told.append)
         self.assertEqual((result.failed, "".join(told)), (0, ""))
-        self.assertEqual(result.attempted, 69)
+        self.assertEqual(result.attempted, 88)
 
     def test_readme(self):
         path = os.path.join(os.path.dirname(os.path.dirname(os.path.abspath(__file__))), "README.md")
         result = doctest.testfile(path, module_relative=False, encoding="utf-8")
-        self.assertEqual((result.failed, result.attempted), (0, 13))
+        self.assertEqual((result.failed, result.attempted), (0, 17))
 
     def test_the_samples(self):
         self.gives(3, lets_life, TWO)

@@ -76,6 +76,22 @@ FUNCTIONS = {
     "offtold": "off_span(nest, off, view), off_stage(nest, off, view)",
     "treereaders": "reader_by(dials, tour, table), nest_reader(nest), seen_table(nest)",
     "blocks": "blocks_of(net), block_ties(net, block), blocks_at(net, stage), hinges_of(net)",
+    "gates": "gate_of(net, block, stage), behind(net, block, gate), gates_of(net, stage)",
+    "regions": "regions_of(net, places), region_of(net, places, stage)",
+    "holdkinds": "is_holding(net, dials, thing), lets_holding(net, dials, thing)",
+    "dealings": "dealing_of(net, dials), deals_many(net, dials), mixed_of(net, dials)",
+    "handed": "parts_block(net, dials, rows, dial, block), parting_dials(net, dials, rows), bare_block(net, dials, rows),"
+              " bare_row(net, dials, rows), is_trim(net, dials, rows), handed_told(net, dials, rows, row)",
+    "heldrows": "code_rows(net, dials, holding), rows_each(net, dials, holding), rows_at(net, dials, holding, stage),"
+                " passed_row(net, dials, holding, row, here, there)",
+    "heldmachines": "held_machine(net, dials, holding)",
+    "sinks": "sinks_of(net, gates), sink_of(net, gates), told_gates(net, dials, holding, row),"
+             " held_told(net, dials, holding, row)",
+    "tights": "tight_many(net, dials), tight_code(net, dials, dealing, names), tight_parts(net, dials, rows)",
+    "beatings": "beating(net, dials, rows, reader), lets_beating(net, dials, rows, reader, thing)",
+    "slicekinds": "is_slice(thing), is_pass(thing), is_slices(thing)",
+    "weakruns": "line_reason(nest, many, slices, piece), dial_shows(nest, slices, dial, shade)",
+    "lineruns": "line_run(nest, many, slices), standing(nest, slices), stood_between(nest, slices, begin, end)",
 }
 CLASSES = {
     "lifeclasses": ("Life(dials, spots)", "lean(), stages(), stage(moment), back(), cut(many), told()"),
@@ -85,9 +101,12 @@ CLASSES = {
                     "held(), row(stage), stage(row), turn(stage), shift(), turns(dial), life(many), grown(size)"),
     "tellclasses": ("Teller(outer, inner)",
                     "told(view), span(view), seen(view), weak(view), near(off, view), reader()"),
+    "undoclasses": ("Undo(net, dials, holding)",
+                    "rows(stage), passed(row, here, there), told(row), spare(), machine(),"
+                    " hung(stage, other, more, held)"),
 }
 OWN_METHODS = {"Life": ("__eq__", "__len__"), "Looks": ("__eq__",), "Cut": ("__eq__",), "Code": ("__eq__",),
-               "Teller": ("__eq__",)}
+               "Teller": ("__eq__",), "Undo": ("__eq__",)}
 
 
 def parts(text):

@@ -4,16 +4,20 @@ import itertools
 import unittest
 
 from stoodthen import (
-    answerpapers, avoidpapers, bitnumbers, blocks, codeclasses, cores, cutclasses, cutpapers, gaps, kinds,
-    lifechanges, lifeclasses, lifespans, lifetexts, lives, lookclasses, looknumbers, machines, meshes, nestkinds,
-    nestlives, nestrows, nestturns, nets, nettexts, offbounds, offtold, pairlives, readables, readerjudges,
-    readerruns, returns, rightstages, rowtools, seenviews, showncounts, shows, strongparts, tellclasses, toandfro,
-    toldanswers, treereaders, twolooks, views, viewspans, watchchecker, weaktold)
+    answerpapers, avoidpapers, beatings, bitnumbers, blocks, codeclasses, cores, cutclasses, cutpapers, dealings,
+    gaps, gates, handed, heldmachines, heldrows, holdkinds, kinds, lifechanges, lifeclasses, lifespans, lifetexts,
+    lineruns, lives, lookclasses, looknumbers, machines, meshes, nestkinds, nestlives, nestrows, nestturns, nets,
+    nettexts, offbounds, offtold, pairlives, readables, readerjudges, readerruns, regions, returns, rightstages,
+    rowtools, seenviews, showncounts, shows, sinks, strongparts, tellclasses, tights, toandfro, toldanswers,
+    treereaders, twolooks, undoclasses, views, viewspans, watchchecker, weakruns, weaktold)
 from tests.samples import BOTH, KITE, MB, NEST, ODD, RING, ROW, Promises
 
 DIALS = (2, 2)
 READER = (("look", 0, (1, 2)), ("tell", 0), ("tell", 3))
 ROWS = ((0, 0), (0, 1), (1, 1))
+HOLDING = (("dial", 0), ("dial", 0))
+# Parameters that may be any values: they are not refused.
+FREE = ("thing", "piece")
 
 # Each function with good arguments; those in the dict may be any values.
 CALLS = [
@@ -151,6 +155,43 @@ CALLS = [
     (tellclasses.Teller(*NEST).near, (), {"off": 1, "view": (0, 1, 1)}),
     (blocks.block_ties, (KITE,), {"block": 1}),
     (blocks.blocks_at, (KITE,), {"stage": 2}),
+    (gates.gate_of, (KITE,), {"block": 1, "stage": 0}),
+    (gates.behind, (KITE,), {"block": 1, "gate": 2}),
+    (gates.gates_of, (KITE,), {"stage": 3}),
+    (regions.regions_of, (KITE,), {"places": (1,)}),
+    (regions.region_of, (KITE,), {"places": (0,), "stage": 3}),
+    (holdkinds.is_holding, (KITE,), {"dials": (4,), "thing": HOLDING}),
+    (dealings.dealing_of, (KITE,), {"dials": (3, 2)}),
+    (dealings.deals_many, (KITE,), {"dials": (3, 2)}),
+    (dealings.mixed_of, (KITE,), {"dials": (3, 2)}),
+    (handed.parts_block, (ROW,), {"dials": DIALS, "rows": ROWS, "dial": 1, "block": 0}),
+    (handed.parting_dials, (ROW,), {"dials": DIALS, "rows": ROWS}),
+    (handed.bare_block, (ROW,), {"dials": DIALS, "rows": ROWS}),
+    (handed.bare_row, (ROW,), {"dials": DIALS, "rows": ROWS}),
+    (handed.is_trim, (ROW,), {"dials": DIALS, "rows": ROWS}),
+    (handed.handed_told, (ROW,), {"dials": DIALS, "rows": ROWS, "row": (1, 0)}),
+    (heldrows.code_rows, (KITE,), {"dials": (4,), "holding": HOLDING}),
+    (heldrows.rows_each, (KITE,), {"dials": (4,), "holding": HOLDING}),
+    (heldrows.rows_at, (KITE,), {"dials": (4,), "holding": HOLDING, "stage": 3}),
+    (heldrows.passed_row, (KITE,), {"dials": (4,), "holding": HOLDING, "row": (2,), "here": 2, "there": 3}),
+    (heldmachines.held_machine, (KITE,), {"dials": (4,), "holding": HOLDING}),
+    (sinks.sinks_of, (KITE,), {"gates": (1, 2)}),
+    (sinks.sink_of, (KITE,), {"gates": (1, 2)}),
+    (sinks.told_gates, (KITE,), {"dials": (4,), "holding": HOLDING, "row": (3,)}),
+    (sinks.held_told, (KITE,), {"dials": (4,), "holding": HOLDING, "row": (3,)}),
+    (tights.tight_many, (ROW,), {"dials": DIALS}),
+    (tights.tight_code, (ROW,), {"dials": DIALS, "dealing": (1, 0), "names": ((1, 0), (0, 1))}),
+    (tights.tight_parts, (ROW,), {"dials": DIALS, "rows": ROWS}),
+    (beatings.beating, (RING,), {"dials": DIALS, "rows": ROWS, "reader": READER}),
+    (undoclasses.Undo, (), {"net": KITE, "dials": (4,), "holding": HOLDING}),
+    (undoclasses.Undo(KITE, (4,), HOLDING).rows, (), {"stage": 3}),
+    (undoclasses.Undo(KITE, (4,), HOLDING).passed, (), {"row": (2,), "here": 2, "there": 3}),
+    (undoclasses.Undo(KITE, (4,), HOLDING).told, (), {"row": (3,)}),
+    (undoclasses.Undo(KITE, (4,), HOLDING).hung, (), {"stage": 3, "other": RING, "more": (3,), "held": (("dial", 0),)}),
+    (weakruns.line_reason, (NEST,), {"many": 2, "slices": (("go",),), "piece": None}),
+    (weakruns.dial_shows, (NEST,), {"slices": (("go",),), "dial": 1, "shade": "old"}),
+    (lineruns.standing, (NEST,), {"slices": (("go",),)}),
+    (lineruns.stood_between, (NEST,), {"slices": (("go",),), "begin": 0, "end": 0}),
 ]
 # Checkers: their thing is refused by InvalidPaper, the parameters ahead of it by NotUsable.
 CHECKERS = [
@@ -160,6 +201,8 @@ CHECKERS = [
     (readerjudges.lets_wrong, (MB,), {"reader": READER}, ((1,), (0,))),
     (cutpapers.lets_cut, (BOTH,), {"tour": (0, 1, 0), "gap": 1}, ("first", "gone", "first", "gone")),
     (answerpapers.lets_answer, (BOTH,), {"tour": (0, 1), "view": (0, 1)}, ((0, 1), (1, 2))),
+    (holdkinds.lets_holding, (KITE,), {"dials": (4,)}, HOLDING),
+    (beatings.lets_beating, (RING,), {"dials": DIALS, "rows": ROWS, "reader": READER}, ("told", (1,), (0,))),
 ]
 # Values of no kind that any of these parameters asks for.
 NEVER = (None, True, False, -1, -(10 ** 69), [], [()], [0], (None,), ((),), (True,), ([0],), (-1,), [[[[[]]]]])
@@ -179,13 +222,13 @@ class Parameters(Promises):
     def test_each_parameter(self):
         for function, first, others in CALLS:
             for name in others:
-                if name != "thing":
+                if name not in FREE:
                     for wrong in NEVER:
                         self.refuses(name, function, *first, *{**others, name: wrong}.values())
 
     def test_the_first_wrong_one_is_told(self):
         for function, first, others in CALLS:
-            names = [name for name in others if name != "thing"]
+            names = [name for name in others if name not in FREE]
             for many in range(2, len(names) + 1):
                 for wrong in itertools.combinations(names, many):
                     values = {**others, **dict.fromkeys(wrong, None)}
@@ -207,6 +250,8 @@ class Parameters(Promises):
         self.assertEqual(nets.hung_on(other=ROW, stage=1, net=ROW)[0], 5)
         self.assertEqual(gaps.gap_bound(gap=1, tour=(0, 1), dials=(2, 2)), 3)
         self.assertEqual(rightstages.is_safe(machine=MB, tour=(0, 1, 0)), True)
+        self.assertEqual(lineruns.line_run(slices=(("look", 0, "old"),), many=1, nest=((), (3,))), ((0, 0, 0, (0,), 0),))
+        self.assertEqual(gates.behind(gate=2, block=0, net=KITE), (2, 3))
 
     def test_results_are_the_same_each_time(self):
         for function, first, others in CALLS:
