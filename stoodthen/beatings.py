@@ -7,7 +7,7 @@ from stoodthen.kinds import is_below, is_filled_tuple, is_tuple_of
 from stoodthen.machines import is_walk, machine_by
 from stoodthen.nets import way_of
 from stoodthen.readerchecker import is_reader, is_word
-from stoodthen.readerjudges import steps_seen
+from stoodthen.readerjudges import told_unmet
 from stoodthen.readerruns import shown, tour_of
 from stoodthen.views import is_moments
 
@@ -81,15 +81,7 @@ def told_without(machine, reader, walk, moments):
         raise InvalidPaper("walk", -1)
     if not is_moments_of(walk, moments):
         raise InvalidPaper("moments", -1)
-    steps = steps_seen(machine, reader, walk, moments)
-    if len(steps) <= len(moments):
-        raise InvalidPaper("moments", -1)
-    step = reader[steps[-1]]
-    if step[0] == "look":
-        raise InvalidPaper("end", -1)
-    if step[1] in walk:
-        raise InvalidPaper("met", -1)
-    return step[1]
+    return told_unmet(machine, reader, walk, moments)
 
 
 def is_moments_of(walk, thing):

@@ -184,6 +184,11 @@ def lets_wrong(machine, reader, thing):
         raise InvalidPaper("walk", -1)
     if not is_moments_by(reader, walk, moments):
         raise InvalidPaper("moments", -1)
+    return told_unmet(machine, reader, walk, moments)
+
+
+def told_unmet(machine, reader, walk, moments):
+    """The number told by the watch; InvalidPaper if it is told too soon, not at all, or met."""
     steps = steps_seen(machine, reader, walk, moments)
     if len(steps) <= len(moments):
         raise InvalidPaper("moments", -1)
