@@ -16,7 +16,6 @@ def beating(net, dials, rows, reader):
     """("endless", steps) or ("told", walk, moments) for the reader that is shown bare_row."""
     bare = bare_block(net, dials, rows)
     need(bare is not None, "rows")
-    need(is_reader(dials, reader), "reader")
     row = bare_row(net, dials, rows)
     steps, told = shown(dials, reader, row)
     if told is None:

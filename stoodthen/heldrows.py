@@ -72,14 +72,17 @@ def turned_row(row, turn):
 def turns_by(net, dials, holding):
     """A dict with, for each passing (here, there) of a tie, the turn of turned_row."""
     turns = {}
-    shared = shared_lots(net, dials, holding)
+    numbers = [region_numbers(net, lots) for lots in shared_lots(net, dials, holding)]
     for lot, (word, told) in zip(blocks_of(net), holding):
         ties = ties_within(net, lot)
-        numbers = region_numbers(net, shared[told]) if word == "dial" else {}
-        tie_dials = told if word == "ties" else [told for _ in ties]
-        for (one, other), dial in zip(ties, tie_dials):
-            turns[(one, other)] = (dial, numbers.get(other))
-            turns[(other, one)] = (dial, numbers.get(one))
+        if word == "dial":
+            for one, other in ties:
+                turns[(one, other)] = (told, numbers[told][other])
+                turns[(other, one)] = (told, numbers[told][one])
+        else:
+            for (one, other), dial in zip(ties, told):
+                turns[(one, other)] = (dial, None)
+                turns[(other, one)] = (dial, None)
     return turns
 
 

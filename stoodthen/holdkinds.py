@@ -3,6 +3,7 @@
 from stoodthen.blocks import blocks_of, ties_within
 from stoodthen.errors import InvalidPaper, need
 from stoodthen.kinds import is_below, is_dials, is_tuple_of
+from stoodthen.netchecker import is_net
 from stoodthen.readerchecker import is_word
 
 
@@ -59,9 +60,13 @@ def unused(dials, used):
     return tuple([size - 1 - taken for size, taken in zip(dials, used)])
 
 
+def is_held(net, dials, holding):
+    """Whether these are a net, dials, and a holding of the net in them."""
+    return is_net(net) and is_dials(dials) and is_holding(net, dials, holding)
+
+
 def need_holding(net, dials, holding):
     """Refuse what are no dials, or no holding of the net in them."""
-    need(is_dials(dials), "dials")
     need(is_holding(net, dials, holding), "holding")
 
 

@@ -33,33 +33,37 @@ class Run:
         return "halted" if who in self._halted else None
 
     def put(self, piece):
-        """Do piece, or InvalidEvent; the watch (who, begin, end, seen) that it ends, or None."""
+        """Do piece, or InvalidEvent."""
         reason = self.barred(piece)
         if reason is not None:
             raise InvalidEvent(piece, reason)
-        watch = None
         if piece[0] == "look":
-            watch = self.look(piece[1], piece[2])
+            self.look(piece[1], piece[2])
         elif piece[0] == "halt":
             self._halted[piece[1]] = True
         else:
             self._work.move(piece)
         self._log.append(piece)
         self._stood.append(self._work.stands())
-        return watch
 
     def look(self, who, shade):
-        """Let the reader make its next look; the watch that it ends, or None."""
+        """Let the reader make its next look."""
         place = len(self._log)
         seen = self._looks.get(who, ())
         order = self._work.order(who)
         seen = (*seen, (place, self._work.shows(order[len(seen)], shade)))
-        if len(seen) < len(order):
-            self._looks[who] = seen
+        if len(seen) == len(order):
+            self._watches.append((who, seen[0][0], place, tuple([value for _, value in seen])))
+            seen = ()
+        self._looks[who] = seen
+
+    def told_by_look(self, who, shade):
+        """Do a look, or InvalidEvent; the stage told if it ends a watch, otherwise None."""
+        many = len(self._watches)
+        self.put(("look", who, shade))
+        if len(self._watches) == many:
             return None
-        self._looks[who] = ()
-        self._watches.append((who, seen[0][0], place, tuple([value for _, value in seen])))
-        return self._watches[-1]
+        return self.row(self._watches[-1])[4]
 
     def row(self, watch):
         """The row (who, begin, end, view, stage) of a watch that has ended."""

@@ -10,7 +10,7 @@ from stoodthen.machines import machine_by
 from stoodthen.readerjudges import judged_reader
 from stoodthen.readerruns import shown
 from tests import plainnets
-from tests.samples import HANDLE, ODD, PAIR, POINT, RING, ROW, Promises, random_reader
+from tests.samples import HANDLE, ODD, PAIR, POINT, RING, ROW, SQUARE, Promises, random_reader
 from tests.test_handed import CODES, LINED, PARTED
 
 ASKS = (("look", 1, (1, 1)), ("tell", 1))
@@ -67,6 +67,17 @@ class Beatings(Promises):
                 reader = (*[("look", 0, (step + 1, step + 1)) for step in range(looks)], ("tell", told))
                 _, walk, moments = beating(net, (2,), rows, reader)
                 self.assertEqual(plainnets.beats(net, rows, reader, walk, moments), told)
+
+    def test_the_walk_goes_around_the_stage_told(self):
+        rows = ((0, 1), (0, 0), (1, 0), (1, 1))
+        for told in (0, 1, 2, 3, 9):
+            reader = (("look", 0, (1, 1)), ("look", 1, (2, 2)), ("tell", told))
+            _, walk, found = beating(SQUARE, (2, 2), rows, reader)
+            self.assertEqual(plainnets.beats(SQUARE, rows, reader, walk, found), told)
+            self.assertNotIn(told, walk)
+        # Stage 0 shows what dial 0 has to, stage 2 what dial 1 has to, and stage 1 is between them.
+        reader = (("look", 0, (1, 1)), ("look", 1, (2, 2)), ("tell", 1))
+        self.gives(("told", (0, 3, 2), (0, 2)), beating, SQUARE, (2, 2), rows, reader)
 
     def test_refused(self):
         for wrong in (None, True, 0, (), (1, 2), [2, 2], "22"):

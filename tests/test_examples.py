@@ -7,7 +7,10 @@ import os
 import unittest
 
 from stoodthen.avoidpapers import avoid_paper
+from stoodthen.dealings import dealing_of
 from stoodthen.errors import InvalidText, Unseen
+from stoodthen.heldrows import rows_each
+from stoodthen.holdkinds import lets_holding
 from stoodthen.lifechecker import lets_life
 from stoodthen.lives import life_of
 from stoodthen.machines import machine_by, machine_of
@@ -16,11 +19,12 @@ from stoodthen.nestlives import life_by
 from stoodthen.netchecker import lets_net
 from stoodthen.readables import is_readable
 from stoodthen.rightstages import is_safe
+from stoodthen.runtexts import read_slices
 from stoodthen.views import view_of
 from stoodthen.viewspans import first_end, last_begin
 from stoodthen.weaktold import weak_first, weak_stage
 from tests.samples import BOTH, MB, MT, NEST, RING, RM, ROW, TWO, Promises
-from tests.test_interface import CLASSES, FUNCTIONS, parts
+from tests.test_interface import listed, parts
 
 EXAMPLES = """
 >>> from stoodthen.machines import stepping_back
@@ -228,13 +232,42 @@ EXAMPLES = """
 ((0, 2, 4, (1, 1, 0), 2),)
 >>> stood_between(((2,), (2,)), EARLY, 0, 4)
 (1, 2)
+
+>>> from stoodthen.falls import fallen_pairs, remembered
+>>> FALL = ((1, 1, 1, (1,), 1), (0, 2, 2, (0,), 0), (1, 3, 3, (0,), 0))
+>>> (fallen_pairs(FALL), remembered(FALL))
+(((0, 1), (0, 2)), (1, 0, 1))
+
+>>> from stoodthen.undoruns import undo_run
+>>> slices = (("begin", 1), ("look", 0, "old"), ("look", 0, "new"), ("look", 0, "old"))
+>>> undo_run(RING, (2, 2, 2), (("ties", (0, 1, 2)),), ((2, 0, 1),), slices)
+((0, 1, 3, (1, 0, 0), 1),)
+
+>>> from stoodthen.runchanges import whole_turns
+>>> whole_turns((("begin", 1), ("end",), ("pass", 2), ("begin", 0)))
+(('pass', 1), ('pass', 2), ('pass', 0))
+
+>>> from stoodthen.runtexts import slices_text, read_slices
+>>> slices_text((("begin", 2), ("look", 0, "old")))
+'begin 2\\nlook 0 old'
+
+>>> claim_line(("both", ("row", "ab", (1, 0)), ("not", ("at", "cd", 2))))
+'both row ab 1 0 not at cd 2'
+
+>>> desk = Desk()
+>>> desk.do_all((("line", "ab", (), (2, 2)), ("go", "ab", 2), ("grow", "ab", 2)))
+>>> (desk.row_now("ab"), desk.told("ab", (0, 1, 1, 0)), desk.old_told("ab", 1, (0, 1)))
+((0, 1, 1), 2, 0)
+
+>>> event_line(("hang", "cd", 1, RING, (3,), (("dial", 0),)))
+'hang cd 1 3 3 0 1 0 2 1 2 1 3 dial 0'
 """
 
 
 def interface():
     """All names of the interface, as far as it has landed: some examples leave out imports."""
     names = {"TWO": TWO, "BOTH": BOTH, "RING": RING, "ROW": ROW, "MB": MB, "MT": MT, "RM": RM}
-    for file, text in {**FUNCTIONS, **{file: head for file, (head, _) in CLASSES.items()}}.items():
+    for file, text in listed():
         for name, _ in parts(text):
             names[name] = getattr(importlib.import_module("stoodthen." + file), name)
     return names
@@ -247,12 +280,12 @@ class Examples(Promises):
         example = doctest.DocTestParser().get_doctest(EXAMPLES, interface(), "DOC.md", None, 0)
         result = doctest.DocTestRunner(verbose=False).run(example, out=told.append)
         self.assertEqual((result.failed, "".join(told)), (0, ""))
-        self.assertEqual(result.attempted, 88)
+        self.assertEqual(result.attempted, 103)
 
     def test_readme(self):
         path = os.path.join(os.path.dirname(os.path.dirname(os.path.abspath(__file__))), "README.md")
         result = doctest.testfile(path, module_relative=False, encoding="utf-8")
-        self.assertEqual((result.failed, result.attempted), (0, 17))
+        self.assertEqual((result.failed, result.attempted), (0, 22))
 
     def test_the_samples(self):
         self.gives(3, lets_life, TWO)
@@ -282,8 +315,15 @@ class Examples(Promises):
             for rows in itertools.product(itertools.product((0, 1), repeat=len(dials)), repeat=3):
                 self.gives(False, is_readable, machine_by(RING, dials, rows))
 
-    def test_errors_are_of_the_package(self):
-        self.assertEqual((InvalidText(1, 1).line, InvalidText(1, 1).field), (1, 1))
+    def test_ring_and_row_are_held_as_the_document_says(self):
+        self.gives(None, dealing_of, RING, (2,) * 9)
+        self.assertIsNotNone(dealing_of(ROW, (2, 2)))
+        self.gives((("dial", 0),), dealing_of, RING, (3,))
+        self.gives((0, 0, 0), lets_holding, RING, (2, 2, 2), (("ties", (0, 1, 2)),))
+        self.gives(2, rows_each, RING, (2, 2, 2), (("ties", (0, 1, 2)),))
+
+    def test_the_text_that_raises(self):
+        self.fails(InvalidText, (1, 1), read_slices, "go\nlook 00 old")
 
 
 if __name__ == "__main__":

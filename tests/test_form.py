@@ -184,7 +184,9 @@ class Form(unittest.TestCase):
             for node in ast.walk(tree):
                 self.assertNotIsInstance(node, barred, getattr(node, "lineno", None))
                 if isinstance(node, (ast.BinOp, ast.AugAssign)):
-                    self.assertNotIsInstance(node.op, (ast.Div, ast.Pow, ast.MatMult))
+                    self.assertNotIsInstance(node.op, (ast.Div, ast.MatMult))
+                    if isinstance(node.op, ast.Pow):
+                        self.assertIn(ast.literal_eval(node.right), range(65))
                 if isinstance(node, ast.Constant):
                     self.assertNotIsInstance(node.value, (float, complex, bytes))
                 if isinstance(node, FUNCTIONS):
@@ -214,6 +216,7 @@ class Form(unittest.TestCase):
     def test_names(self):
         own = {name for tree in TREES.values() for name in bound_at_top(tree)}
         for _, _, tree in self.each():
+            parents = parents_of(tree)
             tops = [node.name for node in tree.body if isinstance(node, ast.ClassDef)]
             tops += [alias.name for node in tree.body if isinstance(node, ast.ImportFrom) for alias in node.names]
             for node in ast.walk(tree):
@@ -234,7 +237,9 @@ class Form(unittest.TestCase):
                 if isinstance(node, ast.Name) and isinstance(node.ctx, ast.Load):
                     self.assertNotEqual(node.id, "_")
                     self.assertNotIn(node.id, NEVER_NAMES | NEVER_WORDS)
-                    if node.id in BUILTINS and node.id not in own:
+                    if node.id == "super":
+                        self.assertIn(ast.unparse(parents[parents[node]]), ("super().__init__",))
+                    elif node.id in BUILTINS and node.id not in own:
                         self.assertIn(node.id, LET_BUILTINS)
                 if isinstance(node, ast.Attribute):
                     self.assertNotIn(node.attr, NEVER_NAMES | NEVER_WORDS)
@@ -305,11 +310,14 @@ class Form(unittest.TestCase):
     def test_errors(self):
         own = {node.name for node in TREES["errors.py"].body if isinstance(node, ast.ClassDef)}
         for _, _, tree in self.each():
+            parents = parents_of(tree)
             for node in ast.walk(tree):
                 if isinstance(node, ast.Try):
                     self.assertEqual((node.finalbody, len(node.handlers)), ([], 1))
                     self.assertIn(node.handlers[0].type.id, own)
-                if isinstance(node, ast.Raise):
+                if isinstance(node, ast.Raise) and node.exc is None:
+                    self.assertIsInstance(parents[node], ast.ExceptHandler)
+                elif isinstance(node, ast.Raise):
                     self.assertIsInstance(node.exc, ast.Call)
                     self.assertIn(node.exc.func.id, own)
 

@@ -92,21 +92,44 @@ FUNCTIONS = {
     "slicekinds": "is_slice(thing), is_pass(thing), is_slices(thing)",
     "weakruns": "line_reason(nest, many, slices, piece), dial_shows(nest, slices, dial, shade)",
     "lineruns": "line_run(nest, many, slices), standing(nest, slices), stood_between(nest, slices, begin, end)",
+    "falls": "fallen_pairs(rows), fall_depth(rows), remembered(rows)",
+    "undoruns": "undo_reason(net, dials, holding, many, slices, piece), undo_run(net, dials, holding, orders, slices),"
+                " stood_lot(net, dials, holding, slices, begin, end)",
+    "runpapers": "stood_paper(nest, many, slices), lets_stood(nest, many, slices, thing)",
+    "runchanges": "alone(slices, who), whole_turns(slices)",
+    "runtexts": "slice_line(piece), slices_text(slices), read_slices(text)",
+    "growing": "grown_nest(nest, size), old_view(nest, times, view), old_gate(size, at, stage),"
+               " hung_holding(net, dials, holding, stage, other, more, held)",
+    "deskevents": "is_name(thing), is_event(thing), is_log(thing)",
+    "reasons": "is_works(thing), reason_of(works, event)",
+    "stepping": "stepped(works, event)",
+    "deskclaims": "is_claim(thing), claim_holds(works, claim), claim_line(claim), read_claim(text)",
+    "replaying": "replayed(log), cut_log(log, many), day_report(log)",
+    "desktexts": "event_line(event), read_event(text), log_text(log), read_log(text), works_line(works)",
 }
 CLASSES = {
-    "lifeclasses": ("Life(dials, spots)", "lean(), stages(), stage(moment), back(), cut(many), told()"),
-    "lookclasses": ("Looks(machine, tour)", "views(), right(view), safe(), torn(), table(), met(walk)"),
-    "cutclasses": ("Cut(dials, tour)", "gaps(), bound(gap), least(), tight(), nested(), marks(life, gap)"),
-    "codeclasses": ("Code(outer, inner)",
-                    "held(), row(stage), stage(row), turn(stage), shift(), turns(dial), life(many), grown(size)"),
-    "tellclasses": ("Teller(outer, inner)",
-                    "told(view), span(view), seen(view), weak(view), near(off, view), reader()"),
-    "undoclasses": ("Undo(net, dials, holding)",
-                    "rows(stage), passed(row, here, there), told(row), spare(), machine(),"
-                    " hung(stage, other, more, held)"),
+    "Life(dials, spots)": ("lifeclasses", "lean(), stages(), stage(moment), back(), cut(many), told()"),
+    "Looks(machine, tour)": ("lookclasses", "views(), right(view), safe(), torn(), table(), met(walk)"),
+    "Cut(dials, tour)": ("cutclasses", "gaps(), bound(gap), least(), tight(), nested(), marks(life, gap)"),
+    "Code(outer, inner)": ("codeclasses",
+                           "held(), row(stage), stage(row), turn(stage), shift(), turns(dial), life(many), grown(size)"),
+    "Teller(outer, inner)": ("tellclasses", "told(view), span(view), seen(view), weak(view), near(off, view), reader()"),
+    "Undo(net, dials, holding)": ("undoclasses",
+                                  "rows(stage), passed(row, here, there), told(row), spare(), machine(),"
+                                  " hung(stage, other, more, held)"),
+    "LineRun(outer, inner, many)": ("runclasses",
+                                    "go(), begin(), end(), look(who, shade), halt(who), log(), rows(), stands()"),
+    "UndoRun(net, dials, holding, orders)": (
+        "runclasses", "go(stage), begin(stage), end(), look(who, shade), halt(who), log(), rows(), stands()"),
+    "DeskAsks(works)": ("deskasks", "works(), names_now(), row_now(name), stage_now(name), held_now(name), told(name, seen),"
+                                    " old_told(name, times, view), holds(claim)"),
+    "Desk()": ("desk", "put(event), open_line(name, outer, inner), open_net(name, net, dials, holding), go(name, many),"
+                       " pass_to(name, stage), grow(name, size), hang(name, stage, other, more, held), drop(name), day(),"
+                       " barred(event), do_all(events, keep=False), undo(steps=1), tried(events), log()"),
 }
 OWN_METHODS = {"Life": ("__eq__", "__len__"), "Looks": ("__eq__",), "Cut": ("__eq__",), "Code": ("__eq__",),
-               "Teller": ("__eq__",), "Undo": ("__eq__",)}
+               "Teller": ("__eq__",), "Undo": ("__eq__",), "LineRun": ("__eq__",), "UndoRun": ("__eq__",), "DeskAsks": (),
+               "Desk": ("__eq__",)}
 
 
 def parts(text):
@@ -122,6 +145,11 @@ def parameters(function):
     return [str(parameter) for parameter in inspect.signature(function).parameters.values()]
 
 
+def listed():
+    """The pairs of a file and what is listed for it."""
+    return [*FUNCTIONS.items(), *[(file, head) for head, (file, _) in CLASSES.items()]]
+
+
 class Interface(unittest.TestCase):
 
     def test_functions(self):
@@ -133,7 +161,7 @@ class Interface(unittest.TestCase):
                 self.assertEqual(parameters(function), expected, name)
 
     def test_classes(self):
-        for file, (head, methods) in CLASSES.items():
+        for head, (file, methods) in CLASSES.items():
             module = importlib.import_module("stoodthen." + file)
             (name, expected), = parts(head)
             thing = getattr(module, name)
@@ -147,7 +175,7 @@ class Interface(unittest.TestCase):
 
     def test_all_is_defined_in_its_file(self):
         folder = os.path.dirname(stoodthen.__file__)
-        for file, text in {**FUNCTIONS, **{file: head for file, (head, _) in CLASSES.items()}}.items():
+        for file, text in listed():
             with open(os.path.join(folder, file + ".py"), encoding="utf-8") as source:
                 tree = ast.parse(source.read())
             defined = [node.name for node in tree.body if isinstance(node, (ast.FunctionDef, ast.ClassDef))]

@@ -5,11 +5,13 @@ import unittest
 
 from stoodthen import (
     answerpapers, avoidpapers, beatings, bitnumbers, blocks, codeclasses, cores, cutclasses, cutpapers, dealings,
-    gaps, gates, handed, heldmachines, heldrows, holdkinds, kinds, lifechanges, lifeclasses, lifespans, lifetexts,
-    lineruns, lives, lookclasses, looknumbers, machines, meshes, nestkinds, nestlives, nestrows, nestturns, nets,
-    nettexts, offbounds, offtold, pairlives, readables, readerjudges, readerruns, regions, returns, rightstages,
-    rowtools, seenviews, showncounts, shows, sinks, strongparts, tellclasses, tights, toandfro, toldanswers,
-    treereaders, twolooks, undoclasses, views, viewspans, watchchecker, weakruns, weaktold)
+    desk, deskasks, deskclaims, desktexts, falls, gaps, gates, growing, handed, heldmachines, heldrows, holdkinds,
+    kinds, lifechanges, lifeclasses, lifespans, lifetexts, lineruns, lives, lookclasses, looknumbers, machines,
+    meshes, nestkinds, nestlives, nestrows, nestturns, nets, nettexts, offbounds, offtold, pairlives, readables,
+    readerjudges, readerruns, reasons, regions, replaying, returns, rightstages, rowtools, runchanges, runclasses,
+    runpapers, runtexts, seenviews, showncounts, shows, sinks, stepping, strongparts, tellclasses, tights,
+    toandfro, toldanswers, treereaders, twolooks, undoclasses, undoruns, views, viewspans, watchchecker, weakruns,
+    weaktold)
 from tests.samples import BOTH, KITE, MB, NEST, ODD, RING, ROW, Promises
 
 DIALS = (2, 2)
@@ -17,7 +19,12 @@ READER = (("look", 0, (1, 2)), ("tell", 0), ("tell", 3))
 ROWS = ((0, 0), (0, 1), (1, 1))
 HOLDING = (("dial", 0), ("dial", 0))
 # Parameters that may be any values: they are not refused.
-FREE = ("thing", "piece")
+FREE = ("thing", "piece", "event")
+# Functions that refuse a parameter of such a name all the same.
+ASKED = {runtexts.slice_line: "piece", desktexts.event_line: "event"}
+PASSES = (("pass", 1), ("begin", 2))
+FALL = ((1, 1, 1, (1,), 1), (0, 2, 2, (0,), 0))
+WORKS = (("ab", ("line", NEST, 1, 1)),)
 
 # Each function with good arguments; those in the dict may be any values.
 CALLS = [
@@ -192,6 +199,42 @@ CALLS = [
     (weakruns.dial_shows, (NEST,), {"slices": (("go",),), "dial": 1, "shade": "old"}),
     (lineruns.standing, (NEST,), {"slices": (("go",),)}),
     (lineruns.stood_between, (NEST,), {"slices": (("go",),), "begin": 0, "end": 0}),
+    (falls.fallen_pairs, (), {"rows": FALL}),
+    (falls.fall_depth, (), {"rows": FALL}),
+    (falls.remembered, (), {"rows": FALL}),
+    (undoruns.undo_reason, (ROW,), {"dials": (3,), "holding": HOLDING, "many": 1, "slices": PASSES, "piece": None}),
+    (undoruns.stood_lot, (ROW,), {"dials": (3,), "holding": HOLDING, "slices": PASSES, "begin": 0, "end": 0}),
+    (runpapers.stood_paper, (NEST,), {"many": 1, "slices": (("go",),)}),
+    (runchanges.alone, (), {"slices": PASSES, "who": 0}),
+    (runchanges.whole_turns, (), {"slices": PASSES}),
+    (runtexts.slice_line, (), {"piece": ("go",)}),
+    (runtexts.slices_text, (), {"slices": PASSES}),
+    (runtexts.read_slices, (), {"text": "go"}),
+    (runclasses.LineRun, (), {"outer": (2,), "inner": (2,), "many": 1}),
+    (runclasses.UndoRun, (), {"net": ROW, "dials": (3,), "holding": HOLDING, "orders": ((0,),)}),
+    (growing.grown_nest, (NEST,), {"size": 3}),
+    (growing.old_view, (NEST,), {"times": 1, "view": (0, 1, 1)}),
+    (growing.old_gate, (), {"size": 3, "at": 2, "stage": 4}),
+    (growing.hung_holding, (ROW,), {"dials": (3,), "holding": HOLDING, "stage": 1, "other": RING, "more": (3,), "held": (("dial", 0),)}),
+    (reasons.reason_of, (), {"works": WORKS, "event": None}),
+    (stepping.stepped, (), {"works": WORKS, "event": ("day",)}),
+    (deskclaims.claim_holds, (), {"works": WORKS, "claim": ("at", "ab", 0)}),
+    (deskclaims.claim_line, (), {"claim": ("at", "ab", 0)}),
+    (deskclaims.read_claim, (), {"text": "at ab 0"}),
+    (deskasks.DeskAsks(WORKS).row_now, (), {"name": "ab"}),
+    (deskasks.DeskAsks(WORKS).stage_now, (), {"name": "ab"}),
+    (deskasks.DeskAsks(WORKS).held_now, (), {"name": "ab"}),
+    (deskasks.DeskAsks(WORKS).told, (), {"name": "ab", "seen": (0, 1, 1)}),
+    (deskasks.DeskAsks(WORKS).old_told, (), {"name": "ab", "times": 1, "view": (1,)}),
+    (deskasks.DeskAsks(WORKS).holds, (), {"claim": ("at", "ab", 0)}),
+    (replaying.replayed, (), {"log": (("day",),)}),
+    (replaying.cut_log, (), {"log": (("day",),), "many": 1}),
+    (replaying.day_report, (), {"log": (("day",),)}),
+    (desktexts.event_line, (), {"event": ("day",)}),
+    (desktexts.read_event, (), {"text": "day"}),
+    (desktexts.log_text, (), {"log": (("day",),)}),
+    (desktexts.read_log, (), {"text": "day"}),
+    (desktexts.works_line, (), {"works": WORKS}),
 ]
 # Checkers: their thing is refused by InvalidPaper, the parameters ahead of it by NotUsable.
 CHECKERS = [
@@ -203,9 +246,15 @@ CHECKERS = [
     (answerpapers.lets_answer, (BOTH,), {"tour": (0, 1), "view": (0, 1)}, ((0, 1), (1, 2))),
     (holdkinds.lets_holding, (KITE,), {"dials": (4,)}, HOLDING),
     (beatings.lets_beating, (RING,), {"dials": DIALS, "rows": ROWS, "reader": READER}, ("told", (1,), (0,))),
+    (runpapers.lets_stood, (((), (3,)),), {"many": 1, "slices": (("look", 0, "old"),)}, (0,)),
 ]
 # Values of no kind that any of these parameters asks for.
 NEVER = (None, True, False, -1, -(10 ** 69), [], [()], [0], (None,), ((),), (True,), ([0],), (-1,), [[[[[]]]]])
+
+
+def refused(function, others):
+    """The names of the parameters that are refused."""
+    return [name for name in others if name not in FREE or ASKED.get(function) == name]
 
 
 class Parameters(Promises):
@@ -221,14 +270,13 @@ class Parameters(Promises):
 
     def test_each_parameter(self):
         for function, first, others in CALLS:
-            for name in others:
-                if name not in FREE:
-                    for wrong in NEVER:
-                        self.refuses(name, function, *first, *{**others, name: wrong}.values())
+            for name in refused(function, others):
+                for wrong in NEVER:
+                    self.refuses(name, function, *first, *{**others, name: wrong}.values())
 
     def test_the_first_wrong_one_is_told(self):
         for function, first, others in CALLS:
-            names = [name for name in others if name not in FREE]
+            names = refused(function, others)
             for many in range(2, len(names) + 1):
                 for wrong in itertools.combinations(names, many):
                     values = {**others, **dict.fromkeys(wrong, None)}
@@ -242,7 +290,7 @@ class Parameters(Promises):
                 self.refuses(name, function, *first, *values.values(), None)
             self.refuses(list(others)[0], function, *first, *[None for _ in others], None)
             for thing in ODD:
-                if not (isinstance(thing, tuple) and len(thing) in (2, 4)):
+                if not (isinstance(thing, tuple) and len(thing) in (2, 4, len(paper))):
                     self.rejects("shape", -1, function, *first, *others.values(), thing)
 
     def test_by_name(self):
@@ -252,6 +300,39 @@ class Parameters(Promises):
         self.assertEqual(rightstages.is_safe(machine=MB, tour=(0, 1, 0)), True)
         self.assertEqual(lineruns.line_run(slices=(("look", 0, "old"),), many=1, nest=((), (3,))), ((0, 0, 0, (0,), 0),))
         self.assertEqual(gates.behind(gate=2, block=0, net=KITE), (2, 3))
+        self.assertEqual(undoruns.undo_run(slices=PASSES, orders=((0,),), holding=HOLDING, dials=(3,), net=ROW), ())
+        self.assertEqual(deskasks.DeskAsks(works=WORKS).told(seen=(0, 1, 1), name="ab"), 1)
+
+    def test_desk_by_name(self):
+        held = {"net": RING, "dials": (3,), "holding": (("dial", 0),)}
+        kept = desk.Desk()
+        kept.put(event=("day",))
+        kept.open_line(inner=(2,), outer=(2,), name="ab")
+        kept.open_net(name="cd", **held)
+        kept.go(many=1, name="ab")
+        kept.pass_to(stage=2, name="cd")
+        kept.grow(size=2, name="ab")
+        kept.hang(held=(("dial", 0),), more=(3,), other=RING, stage=1, name="cd")
+        kept.drop(name="ab")
+        self.assertIsNone(kept.barred(event=("day",)))
+        kept.do_all(keep=True, events=(("day",),))
+        self.assertEqual(kept.tried(events=()), kept.works())
+        self.assertEqual(kept.log(), (
+            ("day",), ("line", "ab", (2,), (2,)), ("net", "cd", *held.values()), ("go", "ab", 1), ("pass", "cd", 2), ("grow", "ab", 2),
+            ("hang", "cd", 1, RING, (3,), (("dial", 0),)), ("drop", "ab"), ("day",)))
+        kept.undo(steps=9)
+        self.assertEqual(kept.log(), ())
+
+    def test_runs_by_name(self):
+        run = runclasses.LineRun(many=1, inner=(3,), outer=())
+        self.assertEqual(run.look(shade="old", who=0), 0)
+        run.halt(who=0)
+        run = runclasses.UndoRun(orders=((0,),), holding=HOLDING, dials=(3,), net=ROW)
+        run.go(stage=1)
+        run.begin(stage=2)
+        self.assertEqual(run.look(shade="new", who=0), 2)
+        run.halt(who=0)
+        self.assertEqual(run.log(), (("pass", 1), ("begin", 2), ("look", 0, "new"), ("halt", 0)))
 
     def test_results_are_the_same_each_time(self):
         for function, first, others in CALLS:
