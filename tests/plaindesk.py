@@ -115,7 +115,8 @@ class Desk:
         entries = dict(zip(plain.blocks_of(net), holding))
         for lot, (word, places) in zip(plain.blocks_of(other), told):
             there = tuple(stage if number == 0 else net[0] + number - 1 for number in lot)
-            entries[there] = (word, places + len(dials) if word == "dial" else tuple(place + len(dials) for place in places))
+            entries[there] = (word, places + len(dials) if word == "dial"
+                              else tuple(place + len(dials) for place in places))
         work[1] = hung_on(net, stage, other)
         work[2] = dials + more
         work[3] = tuple(entries[lot] for lot in plain.blocks_of(work[1]))
@@ -213,7 +214,8 @@ def random_claim(rng, desk, most):
     name = rng.choice(NAMES)
     known = name in desk.named
     if word == "row":
-        row = desk.row(name) if known and rng.random() < 0.6 else tuple(rng.randrange(3) for _ in range(rng.randint(1, 3)))
+        row = desk.row(name) if known and rng.random() < 0.6 else tuple(rng.randrange(3)
+                                                                        for _ in range(rng.randint(1, 3)))
         return (word, name, row)
     near = desk.stage(name) if known else 2
     return (word, name, max(0, near + rng.choice((-1, 0, 0, 1)))) if word == "at" else (word, name, rng.randrange(7))

@@ -187,7 +187,7 @@ def shown(reader, row):
 
 
 def endless_runs(dials, rows, reader):
-    """The steps of all runs that never end, with rows of values that the dials have at stages, where they are looked at."""
+    """The steps of all runs that never end, with rows of values that the dials looked at have at stages."""
     found = set()
     for row in all_rows(dials):
         steps, told = shown(reader, row)

@@ -2,6 +2,7 @@
 
 import itertools
 import random
+import unittest
 
 from stoodthen.beatings import beating, lets_beating
 from stoodthen.errors import InvalidPaper
@@ -91,7 +92,8 @@ class Beatings(Promises):
         for net, rows in ((ROW, LINED), (PAIR, ((0, 0), (1, 0))), (POINT, ((0, 0),))):
             self.refuses("rows", beating, net, (2, 2), rows, ASKS)
             self.refuses("rows", beating, net, (2, 2), rows, None)
-        for wrong in (None, True, 0, (), list(ASKS), (("look", 2, (1, 1)), ("tell", 1)), (("look", 1, (1, 2)), ("tell", 1)),
+        for wrong in (None, True, 0, (), list(ASKS), (("look", 2, (1, 1)), ("tell", 1)),
+                      (("look", 1, (1, 2)), ("tell", 1)),
                       (("tell", True),)):
             self.refuses("reader", beating, RING, (2, 2), LINED, wrong)
             self.refuses("reader", lets_beating, RING, (2, 2), LINED, wrong, None)
@@ -144,7 +146,8 @@ class Papers(Promises):
         return ("met",) if reader[at][1] in walk else ("told", reader[at][1])
 
     def test_shape(self):
-        for thing in (*ODD, ("told", (0,)), ("told", (0,), (0,), 0), ("endless",), ("endless", (0,), 0), ["told", (0,), (0,)],
+        for thing in (*ODD, ("told", (0,)), ("told", (0,), (0,), 0), ("endless",), ("endless", (0,), 0),
+                      ["told", (0,), (0,)],
                       ("Told", (0,), (0,)), ("endless", (0,), (0,)), ("told", (0,)), ((0,), (0,)), (0, (0,), (0,))):
             self.rejects("shape", -1, lets_beating, RING, (2, 2), LINED, ASKS, thing)
 
@@ -193,7 +196,8 @@ class Papers(Promises):
         # Dial 0 shows 0 and 1, dial 1 always 1: with 0, then 1, the steps 0, 1, 2 come again.
         self.gives(None, lets_beating, ROW, (2, 2), rows, reader, ("endless", (0, 1, 2)))
         self.gives(None, lets_beating, ROW, (2, 2), rows, reader, ("endless", (0, 2, 1)))
-        for wrong in ((0, 1), (0, 2), (0,), (), (1, 0), (0, 1, 2, 0), (0, 0), (0, 1, 1), (1, 2), (0, 3), (0, -1), (0, True, 2),
+        for wrong in ((0, 1), (0, 2), (0,), (), (1, 0), (0, 1, 2, 0), (0, 0), (0, 1, 1), (1, 2), (0, 3), (0, -1),
+                      (0, True, 2),
                       (False, 1, 2), [0, 1, 2], None, True, 0, "012", (0, None), ((0,),), (0, 10 ** 69)):
             self.rejects("steps", -1, lets_beating, ROW, (2, 2), rows, reader, ("endless", wrong))
 
@@ -204,15 +208,21 @@ class Papers(Promises):
         self.gives(None, lets_beating, ROW, (2, 2), rows, reader, ("endless", (0, 2)))
         self.rejects("steps", -1, lets_beating, ROW, (2, 2), rows, reader, ("endless", (0, 1)))
         # A value that no stage has, but a row may have.
-        self.rejects("steps", -1, lets_beating, PAIR, (3,), ((0,), (1,)), (("look", 0, (1, 1, 0)), ("tell", 0)), ("endless", (0,)))
+        self.rejects("steps", -1, lets_beating, PAIR, (3,), ((0,), (1,)), (("look", 0, (1, 1, 0)), ("tell", 0)),
+                     ("endless", (0,)))
         self.assertEqual(shown((3,), (("look", 0, (1, 1, 0)), ("tell", 0)), (2,)), ((0,), None))
         self.rejects("steps", -1, lets_beating, PAIR, (2,), ((0,), (1,)), (("tell", 0),), ("endless", (0,)))
 
     def test_what_is_accepted_beats(self):
         for net, dials, rows, reader in readers(73, CODES[::9], 2):
-            for paper in (("endless", (0,)), ("endless", (0, 1)), ("told", (0,), ()), ("told", (0,), (0,)), ("told", (0, 1), (0, 1))):
+            for paper in (("endless", (0,)), ("endless", (0, 1)), ("told", (0,), ()), ("told", (0,), (0,)),
+                          ("told", (0, 1), (0, 1))):
                 try:
                     lets_beating(net, dials, rows, reader, paper)
                 except InvalidPaper:
                     continue
                 self.assertNotEqual(judged_reader(machine_by(net, dials, rows), reader), "right")
+
+
+if __name__ == "__main__":
+    unittest.main()

@@ -2,6 +2,7 @@
 
 import itertools
 import random
+import unittest
 
 from stoodthen.answerpapers import answer_paper, lets_answer
 from stoodthen.avoidpapers import avoid_paper, lets_avoiding
@@ -238,9 +239,12 @@ class Stage11(Promises):
             self.assertEqual(comes, sorted(comes))
             pairs = [counts_at(inner, stage) for stage in range(nest_held(((), inner)))]
             self.assertEqual([sum(pair) for pair in pairs], list(range(len(pairs))))
-            begins = [left_begins(inner, left) for left in range(1, lefts)] + [right_begins(inner, right) for right in range(1, rights)]
+            begins = [left_begins(inner, left) for left in range(1,
+                                                                 lefts)] + [right_begins(inner, right)
+                                                                            for right in range(1, rights)]
             self.assertEqual(sorted(begins), list(range(1, len(pairs))))
-            self.assertEqual([{pair[side] for pair in pairs} for side in (0, 1)], [set(range(lefts)), set(range(rights))])
+            self.assertEqual([{pair[side] for pair in pairs} for side in (0, 1)],
+                             [set(range(lefts)), set(range(rights))])
 
     def test_rows_and_turns(self):
         for nest in NESTS:
@@ -251,8 +255,10 @@ class Stage11(Promises):
             for stage in range(1, len(rows)):
                 dial, value = turn_at(nest, stage)
                 turned.append(dial)
-                self.assertEqual((unlike_dials(dials, rows[stage - 1], rows[stage]), rows[stage][dial]), ((dial,), value))
-            self.assertEqual([turned.count(dial) for dial in range(len(dials))], [nest_turns(nest, dial) for dial in range(len(dials))])
+                self.assertEqual((unlike_dials(dials, rows[stage - 1], rows[stage]), rows[stage][dial]),
+                                 ((dial,), value))
+            self.assertEqual([turned.count(dial) for dial in range(len(dials))],
+                             [nest_turns(nest, dial) for dial in range(len(dials))])
             for dial, size in enumerate(nest[0]):
                 self.gives((size - 1) * rows_many(nest[0][:dial]), nest_turns, nest, dial)
 
@@ -291,7 +297,8 @@ class Stage15(Promises):
             dials, tour = nest_dials(nest), nest_tour(nest)
             life = life_by(nest, nest_held(nest))
             seen = plain.views_by_life(life, tour)
-            for view in [tuple(rng.randrange(dials[dial]) for dial in tour) for _ in range(4)] + rng.sample(sorted(seen), 2):
+            for view in [tuple(rng.randrange(dials[dial]) for dial in tour)
+                         for _ in range(4)] + rng.sample(sorted(seen), 2):
                 found[view in seen] += 1
                 self.gives(view in seen, is_seen, nest, view)
                 if view not in seen:
@@ -319,7 +326,8 @@ class Stage15(Promises):
             for _ in range(8):
                 moments = sorted(rng.randrange(len(life[1])) for _ in range(2 * len(nest_tour(nest))))
                 half = len(moments) // 2
-                one, other = [view_of(life, nest_tour(nest), part) for part in (tuple(moments[:half]), tuple(moments[half:]))]
+                one, other = [view_of(life, nest_tour(nest), part)
+                              for part in (tuple(moments[:half]), tuple(moments[half:]))]
                 self.assertLessEqual(told_stage(nest, one), told_stage(nest, other))
 
     def test_lives(self):
@@ -371,7 +379,8 @@ class Stage18(Promises):
 
     def test_tight_codes(self):
         rng = random.Random(71)
-        for net, dials, dealing in ((plaindesk.RING, (3,), (0,)), (plaindesk.KITE, (2, 3), (1, 0)), (plaindesk.BOW, (3, 3), (1, 0)),
+        for net, dials, dealing in ((plaindesk.RING, (3,), (0,)), (plaindesk.KITE, (2, 3), (1, 0)),
+                                    (plaindesk.BOW, (3, 3), (1, 0)),
                                     (plaindesk.ROW, (2, 2), (1, 0)), (plaindesk.ROW, (3,), (0, 0))):
             for _ in range(8):
                 names = tuple(tuple(rng.sample(range(size), size)) for size in dials)
@@ -491,6 +500,11 @@ class Stage24(Promises):
             desk.do_all((("line", "a", *nest), ("grow", "a", 2), ("grow", "a", 3)))
             rows = [row_at(nest, stage) for stage in range(nest_held(nest))]
             tour = nest_tour(nest)
-            for moments in itertools.islice(itertools.combinations_with_replacement(range(len(rows)), len(tour)), 0, 400, 9):
+            for moments in itertools.islice(itertools.combinations_with_replacement(range(len(rows)), len(tour)), 0,
+                                            400, 9):
                 view = tuple(rows[moment][dial] for dial, moment in zip(tour, moments))
                 self.assertTrue(moments[0] <= desk.old_told("a", 2, view) <= moments[-1])
+
+
+if __name__ == "__main__":
+    unittest.main()

@@ -1,6 +1,7 @@
 """[65], (G9): holdings that are found, and how many by shared blocks alone there are."""
 
 import itertools
+import unittest
 
 from stoodthen.blocks import blocks_of
 from stoodthen.dealings import dealing_of, deals_many, mixed_of
@@ -10,7 +11,8 @@ from tests import plain, plainnets
 from tests.samples import BOW, CHORD, HANDLE, KITE, PAIR, POINT, RING, ROW, SQUARE, STAR, Promises
 
 NETS = (POINT, PAIR, ROW, RING, KITE, SQUARE, STAR, BOW, HANDLE, CHORD, line_net(5), star_net(6))
-DIALS = ((2,), (3,), (2, 2), (4,), (3, 2), (2, 4), (2, 2, 2), (3, 3), (2, 5, 2), (2, 2, 2, 2), (3, 2, 4, 2), (7,), (3, 3, 3))
+DIALS = ((2,), (3,), (2, 2), (4,), (3, 2), (2, 4), (2, 2, 2), (3, 3), (2, 5, 2), (2, 2, 2, 2), (3, 2, 4, 2), (7,),
+         (3, 3, 3))
 
 
 def dealt(net, dials):
@@ -36,7 +38,8 @@ def counted(weights, sizes):
 
 
 # Ten blocks: two-stage ones, and one of three stages; fewer, greater ones.
-TEN = (line_net(11), star_net(11), hung_on(RING, 1, line_net(10)), hung_on(star_net(6), 0, hung_on(line_net(5), 2, RING)))
+TEN = (line_net(11), star_net(11), hung_on(RING, 1, line_net(10)),
+       hung_on(star_net(6), 0, hung_on(line_net(5), 2, RING)))
 GREAT = (hung_on(hung_on(ring_net(4), 3, ring_net(5)), 0, ring_net(5)), hung_on(BOW, 4, hung_on(BOW, 1, RING)))
 
 
@@ -123,3 +126,7 @@ class Dealings(Promises):
         for wrong in (None, True, 0, (), (1,), (2, 0), [2, 2], (True, 2), "22", ((2, 2),)):
             for function in (dealing_of, deals_many, mixed_of):
                 self.refuses("dials", function, ROW, wrong)
+
+
+if __name__ == "__main__":
+    unittest.main()

@@ -1,6 +1,7 @@
 """[88], [89], [92]: what there is to ask of works, and the desk that keeps them."""
 
 import random
+import unittest
 
 from stoodthen.desk import Desk
 from stoodthen.deskasks import DeskAsks
@@ -184,9 +185,11 @@ class Desks(Promises):
 
     def test_methods_put_events(self):
         desk, other = Desk(), Desk()
-        for event in (*START, ("pass", "cd", 2), ("grow", "ab", 3), ("hang", "cd", 2, ROW, (3,), BOTH_SHARED), ("day",), ("drop", "ab")):
+        for event in (*START, ("pass", "cd", 2), ("grow", "ab", 3), ("hang", "cd", 2, ROW, (3,), BOTH_SHARED),
+                      ("day",), ("drop", "ab")):
             word, *rest = event
-            method = {"line": desk.open_line, "net": desk.open_net, "go": desk.go, "pass": desk.pass_to, "grow": desk.grow,
+            method = {"line": desk.open_line, "net": desk.open_net, "go": desk.go, "pass": desk.pass_to,
+                      "grow": desk.grow,
                       "hang": desk.hang, "drop": desk.drop, "day": desk.day}[word]
             self.assertIsNone(method(*rest))
             other.put(event)
@@ -197,7 +200,8 @@ class Desks(Promises):
         desk = filled()
         before = self.state(desk)
         things = (None, True, -1, "x y", [], ((),), [0], (2,))
-        for method, word, many in ((desk.open_line, "line", 3), (desk.open_net, "net", 4), (desk.go, "go", 2), (desk.pass_to, "pass", 2),
+        for method, word, many in ((desk.open_line, "line", 3), (desk.open_net, "net", 4), (desk.go, "go", 2),
+                                   (desk.pass_to, "pass", 2),
                                    (desk.grow, "grow", 2), (desk.hang, "hang", 5), (desk.drop, "drop", 1)):
             for thing in things:
                 self.fails(InvalidEvent, ((word, *[thing] * many), "shape"), method, *[thing] * many)
@@ -206,12 +210,15 @@ class Desks(Promises):
             self.fails(InvalidEvent, (thing, "shape"), desk.put, thing)
             self.gives("shape", desk.barred, thing)
         for method, arguments, event, reason in (
-                (desk.open_line, ("ab", (), (2,)), ("line", "ab", (), (2,)), "name"), (desk.open_net, ("ab", PAIR, (2,), (("dial", 0),)),
-                                                                                     ("net", "ab", PAIR, (2,), (("dial", 0),)), "name"),
+                (desk.open_line, ("ab", (), (2,)), ("line", "ab", (), (2,)), "name"),
+                (desk.open_net, ("ab", PAIR, (2,), (("dial", 0),)), ("net", "ab", PAIR, (2,), (("dial", 0),)), "name"),
                 (desk.go, ("cd", 1), ("go", "cd", 1), "line"), (desk.go, ("ab", 2), ("go", "ab", 2), "room"),
-                (desk.grow, ("cd", 2), ("grow", "cd", 2), "line"), (desk.grow, ("ab", 10 ** 60), ("grow", "ab", 10 ** 60), "size"),
-                (desk.pass_to, ("ab", 1), ("pass", "ab", 1), "net"), (desk.pass_to, ("cd", 0), ("pass", "cd", 0), "tie"),
-                (desk.hang, ("cd", 3, PAIR, (2,), (("dial", 0),)), ("hang", "cd", 3, PAIR, (2,), (("dial", 0),)), "stage"),
+                (desk.grow, ("cd", 2), ("grow", "cd", 2), "line"),
+                (desk.grow, ("ab", 10 ** 60), ("grow", "ab", 10 ** 60), "size"),
+                (desk.pass_to, ("ab", 1), ("pass", "ab", 1), "net"),
+                (desk.pass_to, ("cd", 0), ("pass", "cd", 0), "tie"),
+                (desk.hang, ("cd", 3, PAIR, (2,), (("dial", 0),)), ("hang", "cd", 3, PAIR, (2,), (("dial", 0),)),
+                 "stage"),
                 (desk.drop, ("x",), ("drop", "x"), "name")):
             self.fails(InvalidEvent, (event, reason), method, *arguments)
             self.gives(reason, desk.barred, event)
@@ -238,7 +245,8 @@ class Desks(Promises):
         desk = filled()
         before = self.state(desk)
         wrong = ("go", "ab", 9)
-        for bad, reason in ((wrong, "room"), (None, "shape"), (("drop", "x"), "name"), (("pass", "cd", 1), "tie"), ([], "shape")):
+        for bad, reason in ((wrong, "room"), (None, "shape"), (("drop", "x"), "name"), (("pass", "cd", 1), "tie"),
+                            ([], "shape")):
             events = (("go", "ab", 1), ("pass", "cd", 1), bad, ("day",), None)
             self.fails(InvalidEvent, (bad, reason), desk.do_all, events)
             self.assertEqual(self.state(desk), before)
@@ -376,3 +384,7 @@ class Desks(Promises):
         self.assertEqual(list(desk.names_now()), sorted(desk.names_now()))
         desk.undo(60)
         self.assertEqual(self.state(desk), ((), ()))
+
+
+if __name__ == "__main__":
+    unittest.main()

@@ -1,6 +1,7 @@
 """[87]: claims about works."""
 
 import random
+import unittest
 
 from stoodthen.deskclaims import claim_holds, claim_line, is_claim, read_claim
 from stoodthen.errors import InvalidText
@@ -34,14 +35,20 @@ class Claims(Promises):
         self.gives(BOTH, read_claim, "both row ab 1 0 not at cd 2")
 
     def test_claims(self):
-        for claim in (AT, BOTH, ("at", "a", 0), ("row", "a", (0,)), ("row", "a", (10 ** 60,) * 200), ("room", "abcdefghijkl", 10 ** 60),
+        for claim in (AT, BOTH, ("at", "a", 0), ("row", "a", (0,)), ("row", "a", (10 ** 60,) * 200),
+                      ("room", "abcdefghijkl", 10 ** 60),
                       ("either", AT, BOTH)):
             self.gives(True, is_claim, claim)
-        for thing in (*ODD, ("at", "a", -1), ("at", "a", True), ("at", "A", 0), ("at", "a"), ("at", "a", 0, 0), ("at", "a", (0,)),
-                      ("room", "a", None), ("room", "a", (0,)), ("row", "a", ()), ("row", "a", 0), ("row", "a", [0]), ("row", "a", (0, True)),
-                      ("row", "a", (-1,)), ("row", "a", ((0,),)), ("row", "", (0,)), ("not",), ("not", AT, AT), ("both", AT), ("either", AT),
-                      ("both", AT, AT, AT), ("not", None), ("not", ("not", ("at", "a"))), ("both", AT, ["at", "a", 0]), ("nor", AT),
-                      ["not", AT], ("not", list(AT)), ("at", ("a",), 0), (("at",), "a", 0), ("both", "a", 0), ("not", "a"), AT[:2]):
+        for thing in (*ODD, ("at", "a", -1), ("at", "a", True), ("at", "A", 0), ("at", "a"), ("at", "a", 0, 0),
+                      ("at", "a", (0,)),
+                      ("room", "a", None), ("room", "a", (0,)), ("row", "a", ()), ("row", "a", 0), ("row", "a", [0]),
+                      ("row", "a", (0, True)),
+                      ("row", "a", (-1,)), ("row", "a", ((0,),)), ("row", "", (0,)), ("not",), ("not", AT, AT),
+                      ("both", AT), ("either", AT),
+                      ("both", AT, AT, AT), ("not", None), ("not", ("not", ("at", "a"))), ("both", AT, ["at", "a", 0]),
+                      ("nor", AT),
+                      ["not", AT], ("not", list(AT)), ("at", ("a",), 0), (("at",), "a", 0), ("both", "a", 0),
+                      ("not", "a"), AT[:2]):
             self.gives(False, is_claim, thing)
 
     def test_four_words_within_one_another(self):
@@ -78,10 +85,14 @@ class Holds(Promises):
         self.assertGreater(min(found.values()), 100)
 
     def test_each_word(self):
-        for claim, holds in ((("at", "ab", 2), True), (("at", "ab", 1), False), (("at", "cd", 1), True), (("at", "cd", 2), False),
-                             (("row", "ab", (1, 1)), True), (("row", "ab", (1, 0)), False), (("row", "cd", (1, 0, 0)), True),
-                             (("row", "cd", (1, 0)), False), (("row", "cd", (1, 0, 0, 0)), False), (("room", "ab", 0), True),
-                             (("room", "ab", 1), True), (("room", "ab", 2), False), (("room", "cd", 0), False), (("at", "x", 0), False),
+        for claim, holds in ((("at", "ab", 2), True), (("at", "ab", 1), False), (("at", "cd", 1), True),
+                             (("at", "cd", 2), False),
+                             (("row", "ab", (1, 1)), True), (("row", "ab", (1, 0)), False),
+                             (("row", "cd", (1, 0, 0)), True),
+                             (("row", "cd", (1, 0)), False), (("row", "cd", (1, 0, 0, 0)), False),
+                             (("room", "ab", 0), True),
+                             (("room", "ab", 1), True), (("room", "ab", 2), False), (("room", "cd", 0), False),
+                             (("at", "x", 0), False),
                              (("row", "x", (0,)), False), (("room", "x", 0), False), (("not", ("room", "x", 0)), True)):
             self.gives(holds, claim_holds, WORKS, claim)
             self.gives(not holds, claim_holds, WORKS, ("not", claim))
@@ -126,7 +137,8 @@ class Lines(Promises):
     def test_written(self):
         self.gives("at a 0", claim_line, ("at", "a", 0))
         self.gives("room ab 12", claim_line, ("room", "ab", 12))
-        self.gives("either not at cd 2 both at cd 2 row a 0 7", claim_line, ("either", ("not", AT), ("both", AT, ("row", "a", (0, 7)))))
+        self.gives("either not at cd 2 both at cd 2 row a 0 7", claim_line,
+                   ("either", ("not", AT), ("both", AT, ("row", "a", (0, 7)))))
 
     def test_texts_that_end_too_soon(self):
         for claim in (AT, BOTH, ("row", "a", (1,)), ("either", BOTH, ("room", "ab", 3)), within("not", 4)):
@@ -137,13 +149,19 @@ class Lines(Promises):
         self.fails(InvalidText, (0, 4), read_claim, "both row ab 1")
 
     def test_fields_that_cannot_stand(self):
-        for field, text in ((0, ""), (0, " "), (0, "x"), (0, "At a 0"), (0, " at a 0"), (1, "at  a 0"), (1, "at"), (1, "at A 0"), (1, "at 0 0"),
-                            (1, "at abcdefghijklm 0"), (2, "at a"), (2, "at a b"), (2, "at a 00"), (2, "at a 01"), (2, "at a -1"), (2, "at a "),
-                            (3, "at a 0 "), (3, "at a 0 0"), (3, "at a 0 at"), (3, "room a 0 x"), (2, "row a"), (2, "row a x"), (2, "row a "),
-                            (3, "row a 0 "), (4, "row a 0 1 x"), (3, "row a 0 01"), (3, "row a 0 row"), (1, "not"), (1, "not x"), (1, "not 0"),
-                            (4, "not at a 0 at a 0"), (4, "not at a 0 0"), (1, "both"), (1, "both 0"), (4, "both at a 0"), (4, "both at a 0 x"),
+        for field, text in ((0, ""), (0, " "), (0, "x"), (0, "At a 0"), (0, " at a 0"), (1, "at  a 0"), (1, "at"),
+                            (1, "at A 0"), (1, "at 0 0"),
+                            (1, "at abcdefghijklm 0"), (2, "at a"), (2, "at a b"), (2, "at a 00"), (2, "at a 01"),
+                            (2, "at a -1"), (2, "at a "),
+                            (3, "at a 0 "), (3, "at a 0 0"), (3, "at a 0 at"), (3, "room a 0 x"), (2, "row a"),
+                            (2, "row a x"), (2, "row a "),
+                            (3, "row a 0 "), (4, "row a 0 1 x"), (3, "row a 0 01"), (3, "row a 0 row"), (1, "not"),
+                            (1, "not x"), (1, "not 0"),
+                            (4, "not at a 0 at a 0"), (4, "not at a 0 0"), (1, "both"), (1, "both 0"),
+                            (4, "both at a 0"), (4, "both at a 0 x"),
                             (5, "both row a 0 1"), (5, "both row a 0 1 x"), (7, "both at a 0 at b 1 at"),
-                            (0, "(at a 0)"), (2, "at a 0;"), (2, "at a 0,"), (1, "at a; 0"), (0, "row\na 0"), (2, "at a +1"), (2, "at a 1\n")):
+                            (0, "(at a 0)"), (2, "at a 0;"), (2, "at a 0,"), (1, "at a; 0"), (0, "row\na 0"),
+                            (2, "at a +1"), (2, "at a 1\n")):
             self.fails(InvalidText, (0, field), read_claim, text)
 
     def test_a_fifth_word_within_four(self):
@@ -162,3 +180,7 @@ class Lines(Promises):
     def test_refused(self):
         for wrong in (None, True, 0, (), [], AT, ["at a 0"], 10 ** 69):
             self.refuses("text", read_claim, wrong)
+
+
+if __name__ == "__main__":
+    unittest.main()

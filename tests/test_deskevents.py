@@ -2,6 +2,7 @@
 
 import itertools
 import random
+import unittest
 
 from stoodthen.deskevents import is_event, is_log, is_name
 from stoodthen.nets import line_net
@@ -9,12 +10,16 @@ from tests import plaindesk
 from tests.heldsamples import BOTH_SHARED, HELD, TIED
 from tests.samples import HUGE, NEST, ODD, RING, ROW, WIDE, Promises
 
-EVENTS = (("line", "ab", (), (2, 2)), ("line", "a", (3,), ()), ("line", "abcdefghijkl", WIDE, HUGE), ("net", "cd", RING, (2, 2, 2), TIED),
-          ("net", "cd", (1, ()), (2,), ()), ("go", "ab", 1), ("go", "ab", 10 ** 60), ("pass", "cd", 0), ("pass", "cd", 10 ** 69),
-          ("grow", "ab", 2), ("grow", "ab", 10 ** 60), ("hang", "cd", 0, ROW, (3,), BOTH_SHARED), ("hang", "zz", 11, (1, ()), (2,), ()),
+EVENTS = (("line", "ab", (), (2, 2)), ("line", "a", (3,), ()), ("line", "abcdefghijkl", WIDE, HUGE),
+          ("net", "cd", RING, (2, 2, 2), TIED),
+          ("net", "cd", (1, ()), (2,), ()), ("go", "ab", 1), ("go", "ab", 10 ** 60), ("pass", "cd", 0),
+          ("pass", "cd", 10 ** 69),
+          ("grow", "ab", 2), ("grow", "ab", 10 ** 60), ("hang", "cd", 0, ROW, (3,), BOTH_SHARED),
+          ("hang", "zz", 11, (1, ()), (2,), ()),
           ("drop", "ab"), ("day",))
 # Things that may stand in the place of an entry.
-ENTRIES = (None, True, False, -1, 0, 1, 2, 10 ** 60, "", "ab", "go", "x" * 13, (), (2,), (2, 2), (1,), ((),), RING, TIED, [2], [])
+ENTRIES = (None, True, False, -1, 0, 1, 2, 10 ** 60, "", "ab", "go", "x" * 13, (), (2,), (2, 2), (1,), ((),), RING,
+           TIED, [2], [])
 
 
 class Events(Promises):
@@ -22,7 +27,8 @@ class Events(Promises):
     def test_names(self):
         for name in ("a", "z", "ab", "abcdefghijkl", "zzzzzzzzzzzz", "day"):
             self.gives(True, is_name, name)
-        for thing in (*ODD, "abcdefghijklm", "Ab", "aB", "a b", "a1", "a-", "1", " a", "a ", "a\n", "_", ("a",), ["a"], "a~", "{", "`"):
+        for thing in (*ODD, "abcdefghijklm", "Ab", "aB", "a b", "a1", "a-", "1", " a", "a ", "a\n", "_", ("a",), ["a"],
+                      "a~", "{", "`"):
             if thing not in ("look",):
                 self.gives(False, is_name, thing)
 
@@ -46,11 +52,16 @@ class Events(Promises):
         self.assertGreater(min(found.values()), 50)
 
     def test_other_things(self):
-        for thing in (*ODD, ("day", "ab"), ("drop",), ("drop", "ab", 0), ("go", "ab"), ("go", "ab", 0), ("grow", "ab", 1), ("pass", "ab", -1),
-                      ("line", "ab", ()), ("line", "ab", (), ()), ("line", "ab", ((2,), (2,))), ("line", "ab", NEST), ("line", "ab", [2], ()),
-                      ("net", "ab", RING, (2, 2, 2)), ("net", "ab", RING, (2, 2), TIED), ("net", "ab", (2, ()), (2,), ()),
-                      ("net", "ab", RING, (2, 2, 2), TIED, 0), ("hang", "ab", RING, (2, 2, 2), TIED), ("hang", "ab", -1, RING, (2, 2, 2), TIED),
-                      ("hang", "ab", True, RING, (2, 2, 2), TIED), ("go", "ab", True), ("Go", "ab", 1), ("goes", "ab", 1), ("day", ),
+        for thing in (*ODD, ("day", "ab"), ("drop",), ("drop", "ab", 0), ("go", "ab"), ("go", "ab", 0),
+                      ("grow", "ab", 1), ("pass", "ab", -1),
+                      ("line", "ab", ()), ("line", "ab", (), ()), ("line", "ab", ((2,), (2,))), ("line", "ab", NEST),
+                      ("line", "ab", [2], ()),
+                      ("net", "ab", RING, (2, 2, 2)), ("net", "ab", RING, (2, 2), TIED),
+                      ("net", "ab", (2, ()), (2,), ()),
+                      ("net", "ab", RING, (2, 2, 2), TIED, 0), ("hang", "ab", RING, (2, 2, 2), TIED),
+                      ("hang", "ab", -1, RING, (2, 2, 2), TIED),
+                      ("hang", "ab", True, RING, (2, 2, 2), TIED), ("go", "ab", True), ("Go", "ab", 1),
+                      ("goes", "ab", 1), ("day", ),
                       ("tie", "ab", 1), (["day"],), ("days",), (None,), ("line",)):
             self.gives(plaindesk.is_event(thing), is_event, thing)
 
@@ -71,3 +82,7 @@ class Events(Promises):
         for seed in range(10):
             log, _ = plaindesk.random_log(random.Random(seed), 20)
             self.gives(True, is_log, log)
+
+
+if __name__ == "__main__":
+    unittest.main()

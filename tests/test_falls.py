@@ -1,6 +1,7 @@
 """[76]: told stages that fall, and what is told by who remembers."""
 
 import random
+import unittest
 
 from stoodthen.falls import fall_depth, fallen_pairs, remembered
 from tests.samples import ODD, Promises
@@ -60,7 +61,8 @@ class Falls(Promises):
 
     def test_refused(self):
         good = (1, 1, 2, (0,), 3)
-        wrong = [None, True, 0, "", [], [good], good, (good, None), ((good,),), (good, list(good)), (good[:4],), ((*good, 0),),
+        wrong = [None, True, 0, "", [], [good], good, (good, None), ((good,),), (good, list(good)), (good[:4],),
+                 ((*good, 0),),
                  (good, (1, 2, 1, (0,), 3)), ((1, 1, 1, [0], 3),), ((1, 1, 1, 0, 3),), ((1, 1, 1, (None,), 3),),
                  ((1, 1, 1, (-1,), 3),), ((1, 1, 1, (True,), 3),), ((1, 1, 1, (0, (0,)), 3),)]
         for place in (0, 1, 2, 4):
@@ -70,3 +72,7 @@ class Falls(Promises):
         for rows in wrong:
             for function in (fallen_pairs, fall_depth, remembered):
                 self.refuses("rows", function, rows)
+
+
+if __name__ == "__main__":
+    unittest.main()

@@ -1,6 +1,7 @@
 """[83], [92], (G14): nests that grow, and nets on which another net is hung."""
 
 import random
+import unittest
 
 from stoodthen.growing import grown_nest, hung_holding, old_gate, old_view
 from stoodthen.heldrows import passed_row, rows_at
@@ -118,7 +119,7 @@ class Hung(Promises):
 
     def test_works_go_on(self):
         """The old rows, with noughts behind, are rows of the whole at the old stages, and go on as before."""
-        for held, stage, other in HUNG[::3]:
+        for held, stage, other in HUNG[::6]:
             whole = hung_holding(*held, stage, *other)
             noughts = (0,) * len(other[1])
             for place in range(held[0][0]):
@@ -131,7 +132,7 @@ class Hung(Promises):
 
     def test_who_looks_at_the_old_dials_tells_old_gates(self):
         rng = random.Random(83)
-        for held, stage, other in HUNG[::2]:
+        for held, stage, other in HUNG[::5]:
             whole = hung_holding(*held, stage, *other)
             at, row = 0, (0,) * len(whole[1])
             met, shown = [], []
@@ -164,3 +165,7 @@ class Hung(Promises):
                 thing = [*good[:place], wrong, *good[place + 1:]]
                 self.refuses(name, hung_holding, *thing)
                 self.refuses(name, hung_holding, *thing[:place + 1], *[None for _ in good[place + 1:]])
+
+
+if __name__ == "__main__":
+    unittest.main()

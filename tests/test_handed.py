@@ -2,6 +2,7 @@
 
 import itertools
 import random
+import unittest
 
 from stoodthen.dealings import deals_many
 from stoodthen.errors import Unseen
@@ -18,9 +19,11 @@ from tests.samples import (
 LINED = ((0, 0), (1, 0), (1, 1))
 BENT = ((0, 0), (0, 1), (1, 1))
 # Nets and dials of which all codes are gone through, and others of which some are.
-ALL = ((POINT, (2,)), (PAIR, (2,)), (PAIR, (2, 2)), (PAIR, (3, 2)), (ROW, (2,)), (ROW, (2, 2)), (ROW, (3,)), (RING, (2, 2)),
+ALL = ((POINT, (2,)), (PAIR, (2,)), (PAIR, (2, 2)), (PAIR, (3, 2)), (ROW, (2,)), (ROW, (2, 2)), (ROW, (3,)),
+       (RING, (2, 2)),
        (RING, (3,)), (RING, (4,)), (STAR, (4,)), (KITE, (4,)))
-SOME = ((ROW, (3, 2)), (ROW, (2, 2, 2)), (RING, (3, 2)), (KITE, (2, 3)), (STAR, (2, 3)), (STAR, (2, 2, 2)), (BOW, (3, 3)),
+SOME = ((ROW, (3, 2)), (ROW, (2, 2, 2)), (RING, (3, 2)), (KITE, (2, 3)), (STAR, (2, 3)), (STAR, (2, 2, 2)),
+        (BOW, (3, 3)),
         (HANDLE, (2, 4)), (CHORD, (4, 2)), (SQUARE, (4,)), (KITE, (3, 2, 2)))
 
 
@@ -45,7 +48,7 @@ PARTED = [code for code in CODES if () not in plainnets.parting(*code)]
 
 
 def told(net, dials, rows, row):
-    """What the row tells by the least dials that part the blocks, or None and the least one that shows no stage's value."""
+    """What the row tells by the least parting dials, or None and the least one that shows no stage's value."""
     least = [lot[0] for lot in plainnets.parting(net, dials, rows)]
     lost = [dial for dial in least if row[dial] not in [other[dial] for other in rows]]
     if lost:
@@ -154,7 +157,8 @@ class Guarantees(Promises):
             codes = list(plainnets.codes(net, dials))
             dealt = deals_many(net, dials) > 0
             self.assertEqual(any(bare_block(net, dials, rows) is None for rows in codes), dealt)
-            self.assertEqual(any(bare_block(net, dials, rows) is None and is_trim(net, dials, rows) for rows in codes), dealt)
+            self.assertEqual(any(bare_block(net, dials, rows) is None and is_trim(net, dials, rows) for rows in codes),
+                             dealt)
 
     def test_undo_machines_with_too_many_stages(self):
         found = 0
@@ -171,7 +175,8 @@ class Guarantees(Promises):
 class Refused(Promises):
 
     def test_dials_and_rows(self):
-        for function, more in ((parts_block, (0, 0)), (parting_dials, ()), (bare_block, ()), (bare_row, ()), (is_trim, ()),
+        for function, more in ((parts_block, (0, 0)), (parting_dials, ()), (bare_block, ()), (bare_row, ()),
+                               (is_trim, ()),
                                (handed_told, ((0, 0),))):
             for wrong in (None, True, 0, (), (1, 2), [2, 2], (True, 2), "22"):
                 self.refuses("dials", function, ROW, wrong, LINED, *more)
@@ -196,3 +201,7 @@ class Refused(Promises):
         for wrong in (None, True, 0, (), (0,), (0, 0, 0), (0, 2), (0, -1), (True, 0), [0, 0], "00"):
             self.refuses("row", handed_told, ROW, (2, 2), LINED, wrong)
             self.refuses("row", handed_told, ROW, (2, 2), BENT, wrong)
+
+
+if __name__ == "__main__":
+    unittest.main()

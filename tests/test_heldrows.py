@@ -1,6 +1,7 @@
 """[67], [71], (G9), (G10): the rows of the work of a holding, and its machine."""
 
 import itertools
+import unittest
 
 from stoodthen.blocks import blocks_of
 from stoodthen.gates import gates_of
@@ -180,7 +181,8 @@ class Machines(Promises):
         machine = held_machine(CHORD, (2,) * 5, (("ties", (0, 1, 2, 3, 4)),))
         self.assertEqual((len(machine[1]), len(machine[2])), (16, 40))
         self.gives(((4,), (((0,), 0), ((1,), 1), ((2,), 2), ((3,), 3)),
-                    ((0, 1), (0, 2), (1, 0), (1, 2), (2, 0), (2, 1), (2, 3), (3, 2))), held_machine, KITE, (4,), BOTH_SHARED)
+                    ((0, 1), (0, 2), (1, 0), (1, 2), (2, 0), (2, 1), (2, 3), (3, 2))), held_machine, KITE, (4,),
+                   BOTH_SHARED)
         self.gives(((2,), (((0,), 0),), ()), held_machine, POINT, (2,), ())
 
     def test_nearly_three_hundred_spots(self):
@@ -189,3 +191,7 @@ class Machines(Promises):
         machine = held_machine(net, (2,) * 13, (("ties", tuple(range(13))),))
         self.assertEqual((len(machine[1]), len(machine[2])), (9 * 32, 2 * 13 * 32))
         self.is_machine(machine)
+
+
+if __name__ == "__main__":
+    unittest.main()

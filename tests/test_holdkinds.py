@@ -1,6 +1,7 @@
 """[9], [65]: holdings and their checker."""
 
 import itertools
+import unittest
 
 from stoodthen.blocks import blocks_of
 from stoodthen.errors import InvalidPaper
@@ -139,3 +140,7 @@ class Refused(Promises):
             for function in (is_holding, lets_holding):
                 self.refuses("dials", function, ROW, wrong, (("dial", 0), ("dial", 1)))
                 self.refuses("dials", function, ROW, wrong, None)
+
+
+if __name__ == "__main__":
+    unittest.main()

@@ -1,6 +1,7 @@
 """[74], [75]: slices of lines done one after the other, what looks see, and the watches that end."""
 
 import random
+import unittest
 
 from stoodthen.errors import InvalidEvent
 from stoodthen.lineruns import line_run, standing, stood_between
@@ -14,7 +15,8 @@ EARLY = (("go",), ("begin",), ("look", 0, "new"), ("look", 0, "new"), ("look", 0
 ONE = ((), (2,))
 SHORT = [nest for nest in SMALL_NESTS if len(nest_tour(nest)) <= 5]
 RUNS = [(nest, plainruns.line_slices(place, nest)) for place, nest in enumerate(SHORT[::2])]
-RUNS += [(nest, plainruns.line_slices(900 + seed, nest, 60)) for nest in (NEST, ((2, 2), ()), ((), (3,))) for seed in range(6)]
+RUNS += [(nest, plainruns.line_slices(900 + seed, nest, 60)) for nest in (NEST, ((2, 2), ()), ((), (3,)))
+         for seed in range(6)]
 ASKED = (("go",), ("begin",), ("end",), ("look", 0, "old"), ("look", 1, "new"), ("look", 2, "old"), ("look", 3, "new"),
          ("halt", 0), ("halt", 1), ("halt", 3), ("pass", 1), ("begin", 1), None, (), "go")
 NO_SLICES = (None, True, 0, "", [], "go", ("go",), (("pass", 1),), ((),), (None,), [("go",)])
@@ -31,7 +33,7 @@ class Reasons(Promises):
         for nest, run in RUNS:
             again = plainruns.Line(nest, 3)
             for place, piece in enumerate((*run.log, None)):
-                if place % 5 == len(run.log) % 5:
+                if place % 9 == len(run.log) % 9:
                     for asked in ASKED:
                         reason = again.barred(asked)
                         found[reason] = found.get(reason, 0) + 1
@@ -77,7 +79,8 @@ class Reasons(Promises):
         for wrong in (None, True, -1, "1", (), [0]):
             self.refuses("many", line_reason, NEST, wrong, (), ("go",))
             self.refuses("many", line_reason, NEST, wrong, None, None)
-        for wrong in (*NO_SLICES, (("end",),), (("begin",), ("go",)), (("go",),) * 4, (("look", 1, "old"),), (("halt", 0),) * 2):
+        for wrong in (*NO_SLICES, (("end",),), (("begin",), ("go",)), (("go",),) * 4, (("look", 1, "old"),),
+                      (("halt", 0),) * 2):
             self.refuses("slices", line_reason, NEST, 1, wrong, ("go",))
             self.refuses("slices", line_reason, NEST, 1, wrong, None)
         self.gives("last", line_reason, NEST, 1, (("go",),) * 3, ("go",))
@@ -177,7 +180,8 @@ class Runs(Promises):
 
     def test_stood_is_told_behind_the_slices(self):
         slices = (("go",), ("begin",), ("end",), ("go",))
-        for begin, end, stood in ((0, 0, (1, 1)), (0, 1, (1, 2)), (1, 1, (1, 2)), (2, 2, (2, 2)), (1, 2, (1, 2)), (2, 3, (2, 3)),
+        for begin, end, stood in ((0, 0, (1, 1)), (0, 1, (1, 2)), (1, 1, (1, 2)), (2, 2, (2, 2)), (1, 2, (1, 2)),
+                                  (2, 3, (2, 3)),
                                   (3, 3, (3, 3)), (0, 3, (1, 3))):
             self.gives(stood, stood_between, NEST, slices, begin, end)
 
@@ -248,10 +252,15 @@ class Wide(Promises):
             self.gives((), line_run, nest, 1, (*slices, *[("look", 0, "new")] * min(50, len(nest_tour(nest)) - 1)))
 
     def test_watches_that_end(self):
-        for nest in (((10 ** 30,), (10 ** 10,) * 3), ((10 ** 60,), ()), ((), (10 ** 60,)), ((10 ** 29, 2), (5, 10 ** 30))):
+        for nest in (((10 ** 30,), (10 ** 10,) * 3), ((10 ** 60,), ()), ((), (10 ** 60,)),
+                     ((10 ** 29, 2), (5, 10 ** 30))):
             many = len(nest_tour(nest))
             slices = (("go",), ("go",), ("begin",), *[("look", 0, "old")] * many, *[("look", 1, "new")] * many)
             rows = line_run(nest, 2, slices)
             self.assertEqual([(who, begin, end, stage) for who, begin, end, _, stage in rows],
                              [(0, 3, 2 + many, 2), (1, 3 + many, 2 + 2 * many, 3)])
         self.assertEqual(nest_held(((), WIDE)), 2 ** 99 + 2 ** 100 - 1)
+
+
+if __name__ == "__main__":
+    unittest.main()

@@ -215,7 +215,8 @@ CALLS = [
     (growing.grown_nest, (NEST,), {"size": 3}),
     (growing.old_view, (NEST,), {"times": 1, "view": (0, 1, 1)}),
     (growing.old_gate, (), {"size": 3, "at": 2, "stage": 4}),
-    (growing.hung_holding, (ROW,), {"dials": (3,), "holding": HOLDING, "stage": 1, "other": RING, "more": (3,), "held": (("dial", 0),)}),
+    (growing.hung_holding, (ROW,), {"dials": (3,), "holding": HOLDING, "stage": 1, "other": RING, "more": (3,),
+                                    "held": (("dial", 0),)}),
     (reasons.reason_of, (), {"works": WORKS, "event": None}),
     (stepping.stepped, (), {"works": WORKS, "event": ("day",)}),
     (deskclaims.claim_holds, (), {"works": WORKS, "claim": ("at", "ab", 0)}),
@@ -298,7 +299,8 @@ class Parameters(Promises):
         self.assertEqual(nets.hung_on(other=ROW, stage=1, net=ROW)[0], 5)
         self.assertEqual(gaps.gap_bound(gap=1, tour=(0, 1), dials=(2, 2)), 3)
         self.assertEqual(rightstages.is_safe(machine=MB, tour=(0, 1, 0)), True)
-        self.assertEqual(lineruns.line_run(slices=(("look", 0, "old"),), many=1, nest=((), (3,))), ((0, 0, 0, (0,), 0),))
+        self.assertEqual(lineruns.line_run(slices=(("look", 0, "old"),), many=1, nest=((), (3,))),
+                         ((0, 0, 0, (0,), 0),))
         self.assertEqual(gates.behind(gate=2, block=0, net=KITE), (2, 3))
         self.assertEqual(undoruns.undo_run(slices=PASSES, orders=((0,),), holding=HOLDING, dials=(3,), net=ROW), ())
         self.assertEqual(deskasks.DeskAsks(works=WORKS).told(seen=(0, 1, 1), name="ab"), 1)
@@ -318,7 +320,8 @@ class Parameters(Promises):
         kept.do_all(keep=True, events=(("day",),))
         self.assertEqual(kept.tried(events=()), kept.works())
         self.assertEqual(kept.log(), (
-            ("day",), ("line", "ab", (2,), (2,)), ("net", "cd", *held.values()), ("go", "ab", 1), ("pass", "cd", 2), ("grow", "ab", 2),
+            ("day",), ("line", "ab", (2,), (2,)), ("net", "cd", *held.values()), ("go", "ab", 1), ("pass", "cd", 2),
+            ("grow", "ab", 2),
             ("hang", "cd", 1, RING, (3,), (("dial", 0),)), ("drop", "ab"), ("day",)))
         kept.undo(steps=9)
         self.assertEqual(kept.log(), ())

@@ -1,6 +1,7 @@
 """[85], [86]: works, why events are barred, and what events make of works."""
 
 import random
+import unittest
 
 from stoodthen.errors import InvalidEvent
 from stoodthen.nets import line_net, ring_net
@@ -34,7 +35,8 @@ class Works(Promises):
             self.gives(False, is_works, (("ab", thing),))
             if thing != "look":
                 self.gives(False, is_works, (("ab", LINE), (thing, LINE)))
-        for works in (WORKS[::-1], (WORKS[0], WORKS[0]), list(WORKS), (("ab", LINE, 0),), (("Ab", LINE),), (("ab",),), (["ab", LINE],),
+        for works in (WORKS[::-1], (WORKS[0], WORKS[0]), list(WORKS), (("ab", LINE, 0),), (("Ab", LINE),), (("ab",),),
+                      (["ab", LINE],),
                       (("ab", list(LINE)),), (("b", LINE), ("aa", LINE)), (("a", NET), ("a", LINE)), {"ab": LINE}):
             self.gives(False, is_works, works)
 
@@ -44,12 +46,15 @@ class Works(Promises):
                 for grown in range(len(nest[0]) + (1 if nest[1] else 0)):
                     self.gives(True, is_works, (("a", ("line", nest, stage, grown)),))
             most = len(nest[0]) if nest[1] else len(nest[0]) - 1
-            for stage, grown in ((plaindesk.held(nest), 0), (-1, 0), (True, 0), (None, 0), (0, most + 1), (0, -1), (0, False), (0, None)):
+            for stage, grown in ((plaindesk.held(nest), 0), (-1, 0), (True, 0), (None, 0), (0, most + 1), (0, -1),
+                                 (0, False), (0, None)):
                 self.gives(False, is_works, (("a", ("line", nest, stage, grown)),))
-        for work in (LINE[:3], (*LINE, 0), without(LINE, 0, "Line"), without(LINE, 0, "net"), without(LINE, 1, ((), ())),
+        for work in (LINE[:3], (*LINE, 0), without(LINE, 0, "Line"), without(LINE, 0, "net"),
+                     without(LINE, 1, ((), ())),
                      without(LINE, 1, (2, 2)), without(LINE, 1, None), without(LINE, 0, None)):
             self.gives(False, is_works, (("a", work),))
-        self.gives(True, is_works, (("a", ("line", ((2,) * 199, ()), 2 ** 199 - 1, 198)), ("b", ("line", (HUGE, ()), 10 ** 60 - 1, 0))))
+        self.gives(True, is_works, (("a", ("line", ((2,) * 199, ()), 2 ** 199 - 1, 198)),
+                                    ("b", ("line", (HUGE, ()), 10 ** 60 - 1, 0))))
         self.gives(False, is_works, (("a", ("line", ((2,) * 199, ()), 2 ** 199 - 1, 199)),))
 
     def test_nets(self):
@@ -58,8 +63,10 @@ class Works(Promises):
             for row in plainnets.all_rows(held[1])[:64]:
                 for stage in range(held[0][0]):
                     self.gives((stage, row) in states, is_works, (("a", ("net", *held, row, stage, 0)),))
-        for place, entries in ((0, ("line", "nets", None)), (1, (ROW, (3, ((0, 1),)), None, ())), (2, ((2, 2), (), None, [2, 2, 2])),
-                               (3, ((), TIED[0], None, (("ties", (0, 1, 1)),))), (4, ((1, 1, 1), (1, 0), None, [1, 0, 0], (1, 0, False))),
+        for place, entries in ((0, ("line", "nets", None)), (1, (ROW, (3, ((0, 1),)), None, ())),
+                               (2, ((2, 2), (), None, [2, 2, 2])),
+                               (3, ((), TIED[0], None, (("ties", (0, 1, 1)),))),
+                               (4, ((1, 1, 1), (1, 0), None, [1, 0, 0], (1, 0, False))),
                                (5, (0, 2, 3, -1, True, None)), (6, (-1, None, True, "0"))):
             for entry in entries:
                 self.gives(False, is_works, (("a", without(NET, place, entry)),))
@@ -95,7 +102,8 @@ class Reasons(Promises):
         self.gives("name", reason_of, WORKS, ("net", "ab", RING, (2, 2, 2), TIED))
         self.gives(None, reason_of, WORKS, ("net", "abc", RING, (2, 2, 2), TIED))
         self.gives(None, reason_of, WORKS, ("line", "a", (), (2,)))
-        for event in (("go", "x", 1), ("pass", "x", 0), ("grow", "x", 2), ("hang", "x", 0, ROW, (3,), BOTH_SHARED), ("drop", "x")):
+        for event in (("go", "x", 1), ("pass", "x", 0), ("grow", "x", 2), ("hang", "x", 0, ROW, (3,), BOTH_SHARED),
+                      ("drop", "x")):
             self.gives("name", reason_of, WORKS, event)
         self.gives(None, reason_of, (), ("day",))
         self.gives(None, reason_of, WORKS, ("day",))
@@ -120,18 +128,23 @@ class Reasons(Promises):
 
     def test_stages_and_ties(self):
         for stage in range(5):
-            self.gives(None if stage < 3 else "stage", reason_of, WORKS, ("hang", "cd", stage, PAIR, (2,), (("dial", 0),)))
+            self.gives(None if stage < 3 else "stage", reason_of, WORKS,
+                       ("hang", "cd", stage, PAIR, (2,), (("dial", 0),)))
             self.gives(None if stage in (0, 2) else "tie", reason_of, WORKS, ("pass", "cd", stage))
         self.gives("tie", reason_of, (("a", ("net", ROW, (3,), BOTH_SHARED, (0,), 0, 0)),), ("pass", "a", 2))
         self.gives("tie", reason_of, (("a", ("net", (1, ()), (3,), (), (0,), 0, 0)),), ("pass", "a", 0))
 
     def test_size_of_nests(self):
         for nest, size, reason in (
-                ((WIDE[1:], ()), 2, None), ((WIDE[1:], ()), 3, "size"), ((WIDE, ()), 2, "size"), (((2,) * 197, (2,)), 2, None), (((2,) * 196, (3,)), 2, None), (((2,) * 197, (3,)), 2, "size"),
-                (((10 ** 30,), (10 ** 29,)), 10, None), (((10 ** 30,), (10 ** 29,)), 11, "size"), ((HUGE, ()), 2, "size"),
+                ((WIDE[1:], ()), 2, None), ((WIDE[1:], ()), 3, "size"), ((WIDE, ()), 2, "size"),
+                (((2,) * 197, (2,)), 2, None), (((2,) * 196, (3,)), 2, None), (((2,) * 197, (3,)), 2, "size"),
+                (((10 ** 30,), (10 ** 29,)), 10, None), (((10 ** 30,), (10 ** 29,)), 11, "size"),
+                ((HUGE, ()), 2, "size"),
                 (((5 * 10 ** 59,), ()), 2, None), (((), (10 ** 59,)), 10, None),
-                (((2,), ()), 5 * 10 ** 59, None), (((2,), ()), 5 * 10 ** 59 + 1, "size"), (((3,), (3,)), 10 ** 60 // 9, None),
-                (((3,), (3,)), 10 ** 60 // 9 + 1, "size"), (((2,) * 200, ()), 2, "size"), (((2,) * 150, (2,) * 50), 2, "size")):
+                (((2,), ()), 5 * 10 ** 59, None), (((2,), ()), 5 * 10 ** 59 + 1, "size"),
+                (((3,), (3,)), 10 ** 60 // 9, None),
+                (((3,), (3,)), 10 ** 60 // 9 + 1, "size"), (((2,) * 200, ()), 2, "size"),
+                (((2,) * 150, (2,) * 50), 2, "size")):
             self.gives(reason, reason_of, (("a", ("line", nest, 0, 0)),), ("grow", "a", size))
         # So no nest of two hundred dials is let.
         self.assertLess(2 ** 199, 10 ** 60)
@@ -139,17 +152,20 @@ class Reasons(Promises):
 
     def test_size_of_nets(self):
         shared = {size: (("dial", 0),) * (size - 1) for size in range(1, 13)}
-        for size, more, reason in ((6, 7, None), (6, 8, "size"), (12, 1, None), (12, 2, "size"), (1, 12, None), (11, 2, None), (11, 3, "size")):
+        for size, more, reason in ((6, 7, None), (6, 8, "size"), (12, 1, None), (12, 2, "size"), (1, 12, None),
+                                   (11, 2, None), (11, 3, "size")):
             works = (("a", ("net", line_net(size), (12,), shared[size], (0,), 0, 0)),)
             self.gives(reason, reason_of, works, ("hang", "a", 0, line_net(more), (12,), shared[more]))
-        full = {many: (7, tuple((one, other) for other in range(7) for one in range(other))[:many]) for many in range(15, 22)}
+        full = {many: (7, tuple((one, other) for other in range(7) for one in range(other))[:many])
+                for many in range(15, 22)}
         full = {many: (7, tuple(sorted(net[1]))) for many, net in full.items()}
         for one, other, reason in ((21, 3, None), (21, 4, "size"), (20, 4, None), (18, 6, None)):
             net, ring = full[one], ring_net(other)
             works = (("a", ("net", net, (12,), (("dial", 0),) * len(plainnets.plain.blocks_of(net)), (0,), 0, 0)),)
             if net[0] + ring[0] <= 13:
                 self.gives(reason, reason_of, works, ("hang", "a", 6, ring, (12,), (("dial", 0),)))
-        for dials, more, reason in ((23, 1, None), (23, 2, "size"), (12, 12, None), (12, 13, "size"), (1, 23, None), (1, 24, "size")):
+        for dials, more, reason in ((23, 1, None), (23, 2, "size"), (12, 12, None), (12, 13, "size"), (1, 23, None),
+                                    (1, 24, "size")):
             works = (("a", ("net", PAIR, (2,) * dials, (("dial", 0),), (0,) * dials, 0, 0)),)
             self.gives(reason, reason_of, works, ("hang", "a", 1, PAIR, (2,) * more, (("dial", more - 1),)))
 
@@ -206,13 +222,21 @@ class Stepped(Promises):
         cd = ("cd", NET)
         for event, after in (
                 (("line", "b", (), (3,)), (WORKS[0], ("b", ("line", ((), (3,)), 0, 0)), cd)),
-                (("net", "a", ROW, (3, 4), BOTH_SHARED), (("a", ("net", ROW, (3, 4), BOTH_SHARED, (0, 0), 0, 0)), *WORKS)),
+                (("net", "a", ROW, (3, 4), BOTH_SHARED), (("a", ("net", ROW, (3, 4), BOTH_SHARED, (0, 0), 0, 0)),
+                                                          *WORKS)),
                 (("go", "ab", 1), (("ab", ("line", NEST, 3, 1)), cd)),
                 (("grow", "ab", 5), (("ab", ("line", ((5, 2), (2,)), 2, 2)), cd)),
                 (("pass", "cd", 2), (WORKS[0], ("cd", ("net", RING, (2, 2, 2), TIED, (1, 0, 1), 2, 0)))),
                 (("drop", "ab"), (cd,)), (("drop", "cd"), WORKS[:1]), (("day",), WORKS)):
             self.gives(after, stepped, WORKS, event)
         (_, _), (_, hung) = stepped(WORKS, ("hang", "cd", 1, PAIR, (4, 2), (("dial", 1),)))
-        self.assertEqual(hung, ("net", (4, ((0, 1), (0, 2), (1, 2), (1, 3))), (2, 2, 2, 4, 2), (*TIED, ("dial", 4)), (1, 0, 0, 0, 0), 1, 1))
-        self.gives((("ab", ("line", (HUGE, ()), 10 ** 60 - 1, 0)),), stepped, (("ab", ("line", (HUGE, ()), 0, 0)),), ("go", "ab", 10 ** 60 - 1))
-        self.gives((("ab", ("line", (WIDE, ()), 7, 3)),), stepped, (("ab", ("line", (WIDE[1:], ()), 7, 2)),), ("grow", "ab", 2))
+        self.assertEqual(hung, ("net", (4, ((0, 1), (0, 2), (1, 2), (1, 3))), (2, 2, 2, 4, 2), (*TIED, ("dial", 4)),
+                                (1, 0, 0, 0, 0), 1, 1))
+        self.gives((("ab", ("line", (HUGE, ()), 10 ** 60 - 1, 0)),), stepped, (("ab", ("line", (HUGE, ()), 0, 0)),),
+                   ("go", "ab", 10 ** 60 - 1))
+        self.gives((("ab", ("line", (WIDE, ()), 7, 3)),), stepped, (("ab", ("line", (WIDE[1:], ()), 7, 2)),),
+                   ("grow", "ab", 2))
+
+
+if __name__ == "__main__":
+    unittest.main()

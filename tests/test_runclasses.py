@@ -1,6 +1,7 @@
 """[81]: runs of nests and of holdings as objects."""
 
 import random
+import unittest
 
 from stoodthen.errors import InvalidEvent
 from stoodthen.lineruns import line_run, standing
@@ -18,7 +19,8 @@ ORDERS = ((2, 0, 1), (0, 1, 2))
 def do(run, piece):
     """What the method of the slice returns."""
     word, *rest = piece
-    return {"go": run.go, "pass": run.go, "begin": run.begin, "end": run.end, "look": run.look, "halt": run.halt}[word](*rest)
+    return {"go": run.go, "pass": run.go, "begin": run.begin, "end": run.end, "look": run.look,
+            "halt": run.halt}[word](*rest)
 
 
 class Lines(Promises):
@@ -48,8 +50,10 @@ class Lines(Promises):
         run = LineRun((), (2,), 1)
         wrong = object()
         for event, reason, method, arguments in (
-                (("end",), "still", run.end, ()), (("look", 1, "old"), "who", run.look, (1, "old")), (("halt", 1), "who", run.halt, (1,)),
-                (("look", 0, "older"), "shape", run.look, (0, "older")), (("look", None, "old"), "shape", run.look, (None, "old")),
+                (("end",), "still", run.end, ()), (("look", 1, "old"), "who", run.look, (1, "old")),
+                (("halt", 1), "who", run.halt, (1,)),
+                (("look", 0, "older"), "shape", run.look, (0, "older")),
+                (("look", None, "old"), "shape", run.look, (None, "old")),
                 (("halt", True), "shape", run.halt, (True,)), (("halt", [0]), "shape", run.halt, ([0],)),
                 (("look", -1, []), "shape", run.look, (-1, []))):
             self.fails(InvalidEvent, (event, reason), method, *arguments)
@@ -149,8 +153,10 @@ class Nets(Promises):
     def test_barred(self):
         run = UndoRun(ROW, (3,), BOTH_SHARED, ((0,),))
         for event, reason, method, arguments in (
-                (("pass", 2), "tie", run.go, (2,)), (("begin", 0), "tie", run.begin, (0,)), (("pass", None), "shape", run.go, (None,)),
-                (("begin", True), "shape", run.begin, (True,)), (("end",), "still", run.end, ()), (("halt", 1), "who", run.halt, (1,)),
+                (("pass", 2), "tie", run.go, (2,)), (("begin", 0), "tie", run.begin, (0,)),
+                (("pass", None), "shape", run.go, (None,)),
+                (("begin", True), "shape", run.begin, (True,)), (("end",), "still", run.end, ()),
+                (("halt", 1), "who", run.halt, (1,)),
                 (("look", 1, "new"), "who", run.look, (1, "new")), (("look", 0, 0), "shape", run.look, (0, 0))):
             self.fails(InvalidEvent, (event, reason), method, *arguments)
             self.assertEqual((run.log(), run.rows(), run.stands()), ((), (), (0,)))
@@ -164,8 +170,10 @@ class Nets(Promises):
         made = (RING, (2, 2, 2), TIED, ORDERS)
         run = UndoRun(*made)
         self.assertTrue(run == UndoRun(*made))
-        for other in (UndoRun(RING, (2, 2, 2), TIED, ORDERS[:1]), UndoRun(RING, (2, 2, 2), (("ties", (0, 2, 1)),), ORDERS),
-                      UndoRun(RING, (2, 3, 2), TIED, ORDERS), UndoRun(ROW, (3,), BOTH_SHARED, ((0,),)), None, made, 0, LineRun(*NEST, 2)):
+        for other in (UndoRun(RING, (2, 2, 2), TIED, ORDERS[:1]),
+                      UndoRun(RING, (2, 2, 2), (("ties", (0, 2, 1)),), ORDERS),
+                      UndoRun(RING, (2, 3, 2), TIED, ORDERS), UndoRun(ROW, (3,), BOTH_SHARED, ((0,),)), None, made, 0,
+                      LineRun(*NEST, 2)):
             self.assertFalse(run == other)
             self.assertTrue(run != other)
         other = UndoRun(*made)
@@ -198,3 +206,7 @@ class Nets(Promises):
         before = (run.log(), run.rows())
         run.look(0, "old")
         self.assertEqual((run.log()[:-1], run.rows()[:len(before[1])]), before)
+
+
+if __name__ == "__main__":
+    unittest.main()

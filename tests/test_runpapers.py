@@ -1,6 +1,7 @@
 """[78], [79], [82]: papers of runs, slices of one reader alone and slices with whole turns."""
 
 import itertools
+import unittest
 
 from stoodthen.falls import fall_depth, fallen_pairs, remembered
 from stoodthen.lineruns import line_run, stood_between
@@ -110,7 +111,8 @@ class Papers(Promises):
 class Changes(Promises):
 
     def test_example(self):
-        self.gives((("pass", 1), ("pass", 2), ("pass", 0)), whole_turns, (("begin", 1), ("end",), ("pass", 2), ("begin", 0)))
+        self.gives((("pass", 1), ("pass", 2), ("pass", 0)), whole_turns,
+                   (("begin", 1), ("end",), ("pass", 2), ("begin", 0)))
 
     def test_alone(self):
         self.gives((("go",), ("begin",), ("look", 0, "old"), ("end",), ("halt", 0), ("begin",)), alone, LINE, 0)
@@ -119,17 +121,21 @@ class Changes(Promises):
         self.gives((("begin", 1), ("look", 1, "old"), ("end",), ("pass", 2), ("halt", 1), ("begin", 0)), alone, NET, 1)
         self.gives((), alone, (), 0)
         # Slices that are not let.
-        self.gives((("end",), ("end",), ("halt", 3), ("look", 3, "old")), alone, (("end",), ("end",), ("halt", 3), ("look", 3, "old")), 3)
+        self.gives((("end",), ("end",), ("halt", 3), ("look", 3, "old")), alone,
+                   (("end",), ("end",), ("halt", 3), ("look", 3, "old")), 3)
 
     def test_whole_turns(self):
-        self.gives((("go",), ("go",), ("look", 0, "old"), ("look", 1, "new"), ("halt", 0), ("halt", 1), ("go",)), whole_turns, LINE)
-        self.gives((("pass", 1), ("look", 1, "old"), ("pass", 2), ("look", 0, "new"), ("halt", 1), ("pass", 0)), whole_turns, NET)
+        self.gives((("go",), ("go",), ("look", 0, "old"), ("look", 1, "new"), ("halt", 0), ("halt", 1), ("go",)),
+                   whole_turns, LINE)
+        self.gives((("pass", 1), ("look", 1, "old"), ("pass", 2), ("look", 0, "new"), ("halt", 1), ("pass", 0)),
+                   whole_turns, NET)
         self.gives((), whole_turns, ())
         self.gives((), whole_turns, (("end",), ("end",)))
         self.gives((("pass", 10 ** 69),) * 2, whole_turns, (("begin", 10 ** 69),) * 2)
 
     def test_refused(self):
-        wrong = (None, True, 0, "", [], list(LINE), ("go",), (LINE,), (*LINE, ("pass", 1)), (*NET, ("go",)), (("begin",), ("begin", 1)),
+        wrong = (None, True, 0, "", [], list(LINE), ("go",), (LINE,), (*LINE, ("pass", 1)), (*NET, ("go",)),
+                 (("begin",), ("begin", 1)),
                  (None,), ((),), (["go"],), (("look", 0, "older"),))
         for slices in wrong:
             self.refuses("slices", alone, slices, 0)
@@ -174,3 +180,7 @@ class Consequences(Promises):
             for (_, begin, end, _, stage), told in zip(rows, remembered(rows)):
                 first, last = stood_between(nest, slices, begin, end)
                 self.assertTrue(first <= stage <= last and first <= told <= last)
+
+
+if __name__ == "__main__":
+    unittest.main()

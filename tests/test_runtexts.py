@@ -1,6 +1,7 @@
 """[80]: slices as lines of text."""
 
 import itertools
+import unittest
 
 from stoodthen.errors import InvalidRow, InvalidText
 from stoodthen.runtexts import read_slices, slice_line, slices_text
@@ -9,13 +10,19 @@ from tests.test_lineruns import RUNS
 from tests.test_runpapers import LINE, NET
 from tests.test_undoruns import RUNS as NET_RUNS
 
-PIECES = {"go": ("go",), "begin": ("begin",), "end": ("end",), "look 0 old": ("look", 0, "old"), "halt 12": ("halt", 12),
-          "look 10 new": ("look", 10, "new"), "pass 0": ("pass", 0), "begin 3": ("begin", 3), "pass 1" + "0" * 69: ("pass", 10 ** 69)}
+PIECES = {"go": ("go",), "begin": ("begin",), "end": ("end",), "look 0 old": ("look", 0, "old"),
+          "halt 12": ("halt", 12),
+          "look 10 new": ("look", 10, "new"), "pass 0": ("pass", 0), "begin 3": ("begin", 3),
+          "pass 1" + "0" * 69: ("pass", 10 ** 69)}
 # Lines that are none of a slice, and the first field that can't stand.
-WRONG = {"": 0, " ": 0, "x": 0, "0": 0, "Go": 0, "go ": 1, "go 0": 1, " go": 0, "end ": 1, "end end": 1, "begin ": 1, "begin x": 1,
-         "begin 00": 1, "begin 01": 1, "begin -1": 1, "begin 1 ": 2, "begin 1 2": 2, "begin 1;": 1, "pass": 1, "pass ": 1, "pass x": 1,
-         "pass 1 1": 2, "pass 01": 1, "halt": 1, "halt +1": 1, "halt 1 old": 2, "look": 1, "look ": 1, "look x": 1, "look 0": 2,
-         "look 0 ": 2, "look 0 Old": 2, "look 0 0": 2, "look old": 1, "look 00 old": 1, "look 0 old ": 3, "look 0 old 0": 3,
+WRONG = {"": 0, " ": 0, "x": 0, "0": 0, "Go": 0, "go ": 1, "go 0": 1, " go": 0, "end ": 1, "end end": 1, "begin ": 1,
+         "begin x": 1,
+         "begin 00": 1, "begin 01": 1, "begin -1": 1, "begin 1 ": 2, "begin 1 2": 2, "begin 1;": 1, "pass": 1,
+         "pass ": 1, "pass x": 1,
+         "pass 1 1": 2, "pass 01": 1, "halt": 1, "halt +1": 1, "halt 1 old": 2, "look": 1, "look ": 1, "look x": 1,
+         "look 0": 2,
+         "look 0 ": 2, "look 0 Old": 2, "look 0 0": 2, "look old": 1, "look 00 old": 1, "look 0 old ": 3,
+         "look 0 old 0": 3,
          "look  0 old": 1, "look 0  old": 2, "go;": 0, "look 1.0 old": 1, "old": 0, "new": 0, "gone": 0, "()": 0}
 
 
@@ -81,3 +88,7 @@ class Texts(Promises):
             self.refuses("slices", slices_text, wrong)
         for wrong in (None, True, 0, (), [], ("go",), ["go"], 10 ** 69):
             self.refuses("text", read_slices, wrong)
+
+
+if __name__ == "__main__":
+    unittest.main()

@@ -1,6 +1,7 @@
 """[9], [68], (G10): told gates, their sinks, and what rows tell."""
 
 import itertools
+import unittest
 
 from stoodthen.blocks import blocks_of
 from stoodthen.errors import Unseen
@@ -48,7 +49,8 @@ class Sinks(Promises):
 
     def test_refused(self):
         for function in (sinks_of, sink_of):
-            for wrong in (None, True, 0, (), (0,), (0, 1, 2), (2, 2), (0, 0), (-1, 1), (False, 1), (0, True), [0, 1], "01",
+            for wrong in (None, True, 0, (), (0,), (0, 1, 2), (2, 2), (0, 0), (-1, 1), (False, 1), (0, True), [0, 1],
+                          "01",
                           (None, 1), ((0,), 1), (3, 1), (0, 10 ** 69)):
                 self.refuses("gates", function, ROW, wrong)
             for wrong in (None, True, 0, (0,), [], "", ((),)):
@@ -104,7 +106,8 @@ class Told(Promises):
         self.gives(11, held_told, line_net(12), (12,), (("dial", 0),) * 11, (11,))
         self.gives(7, held_told, ring_net(12), (2,) * 24, (("ties", tuple(range(23, 11, -1))),),
                    (0,) * 16 + (1,) * 6 + (0, 1))
-        self.gives((7,), told_gates, ring_net(12), (2,) * 12, (("ties", tuple(range(12))),), (1, 0, *(1,) * 6, *(0,) * 4))
+        self.gives((7,), told_gates, ring_net(12), (2,) * 12, (("ties", tuple(range(12))),),
+                   (1, 0, *(1,) * 6, *(0,) * 4))
 
     def test_refused(self):
         row = (1, 0, 0)
@@ -116,7 +119,8 @@ class Told(Promises):
                           (("ties", (0, 1, 3)),), (("dial", 0),), TIED * 2):
                 self.refuses("holding", function, RING, (2, 2, 2), wrong, row)
                 self.refuses("holding", function, RING, (2, 2, 2), wrong, None)
-            for wrong in (None, True, 0, (), (0, 0), (0, 0, 0, 0), (0, 0, 2), (0, 0, -1), (0, 0, True), [0, 0, 0], "000"):
+            for wrong in (None, True, 0, (), (0, 0), (0, 0, 0, 0), (0, 0, 2), (0, 0, -1), (0, 0, True), [0, 0, 0],
+                          "000"):
                 self.refuses("row", function, RING, (2, 2, 2), TIED, wrong)
 
 
@@ -129,8 +133,13 @@ class Watched(Promises):
             tables = [plainnets.gates(net, lot) for lot in blocks]
             walks = [(stage,) for stage in range(net[0])]
             for _ in range(3):
-                walks += [(*walk, stage) for walk in walks for stage in range(net[0]) if plainnets.tied(net, walk[-1], stage)]
+                walks += [(*walk, stage) for walk in walks for stage in range(net[0])
+                          if plainnets.tied(net, walk[-1], stage)]
                 walks = sorted(set(walks))[::2 if len(walks) > 60 else 1]
             for walk in walks:
                 for gates in itertools.product(*[sorted({table[stage] for stage in walk}) for table in tables]):
                     self.assertTrue(set(sinks_of(net, gates)) <= set(walk))
+
+
+if __name__ == "__main__":
+    unittest.main()

@@ -1,6 +1,7 @@
 """[73]: slices of lines and of nets."""
 
 import itertools
+import unittest
 
 from stoodthen.slicekinds import is_pass, is_slice, is_slices
 from tests import plainruns
@@ -34,8 +35,10 @@ class Slices(Promises):
         self.assertEqual(found, [2 + 1 + 6 + 3, 3 + 3 + 1 + 6 + 3])
 
     def test_any_values(self):
-        for thing in (*ODD, ["go"], "go", ("go",) * 4, ("look", 0, "old", 0), ("look", 0, ["old"]), ("look", 0, ("old",)),
-                      ("look", (0,), "old"), ("halt", "0"), (("go",),), ("look", 0, 1), ("end", 0), ("halt",), ("pass",)):
+        for thing in (*ODD, ["go"], "go", ("go",) * 4, ("look", 0, "old", 0), ("look", 0, ["old"]),
+                      ("look", 0, ("old",)),
+                      ("look", (0,), "old"), ("halt", "0"), (("go",),), ("look", 0, 1), ("end", 0), ("halt",),
+                      ("pass",)):
             self.gives(False, is_slice, thing)
             self.gives(False, is_pass, thing)
 
@@ -45,7 +48,8 @@ class Slices(Promises):
         self.gives(True, is_slices, NET)
         self.gives(True, is_slices, LINE[2:])
         self.gives(True, is_slices, (*NET[2:], *LINE))
-        for wrong in (list(LINE), LINE + NET[:1], (*NET, ("go",)), (("begin",), ("begin", 0)), (*LINE, None), ((),), (LINE,),
+        for wrong in (list(LINE), LINE + NET[:1], (*NET, ("go",)), (("begin",), ("begin", 0)), (*LINE, None), ((),),
+                      (LINE,),
                       ("go",), None, True, 0, "", "go", [], {}):
             self.gives(False, is_slices, wrong)
         for one, other in itertools.product((*LINE, *NET), repeat=2):
@@ -55,3 +59,7 @@ class Slices(Promises):
         for thing in ODD:
             self.gives(isinstance(thing, tuple) and thing == (), is_slices, thing)
             self.gives(False, is_slices, (*LINE, thing))
+
+
+if __name__ == "__main__":
+    unittest.main()

@@ -2,6 +2,7 @@
 
 import itertools
 import math
+import unittest
 
 from stoodthen.handed import bare_block, is_trim
 from stoodthen.machines import machine_by
@@ -12,9 +13,12 @@ from tests import plain, plainnets
 from tests.samples import BOW, CHORD, HANDLE, KITE, PAIR, POINT, RING, ROW, SQUARE, STAR, Promises
 
 # Nets and dials just used up, of which all codes are gone through.
-LEAST = [(PAIR, (2,)), (ROW, (2, 2)), (ROW, (3,)), (RING, (2, 2)), (RING, (3,)), (KITE, (4,)), (KITE, (2, 3)), (KITE, (3, 2)),
-         (STAR, (4,)), (STAR, (2, 3)), (SQUARE, (4,)), (CHORD, (4,)), (CHORD, (3, 2)), (KITE, (2, 2, 2)), (line_net(4), (3, 2))]
-MORE = [(STAR, (2, 2, 2)), (BOW, (3, 3)), (BOW, (5,)), (BOW, (2, 4)), (BOW, (2, 2, 3)), (HANDLE, (3, 2, 2)), (HANDLE, (3, 3)),
+LEAST = [(PAIR, (2,)), (ROW, (2, 2)), (ROW, (3,)), (RING, (2, 2)), (RING, (3,)), (KITE, (4,)), (KITE, (2, 3)),
+         (KITE, (3, 2)),
+         (STAR, (4,)), (STAR, (2, 3)), (SQUARE, (4,)), (CHORD, (4,)), (CHORD, (3, 2)), (KITE, (2, 2, 2)),
+         (line_net(4), (3, 2))]
+MORE = [(STAR, (2, 2, 2)), (BOW, (3, 3)), (BOW, (5,)), (BOW, (2, 4)), (BOW, (2, 2, 3)), (HANDLE, (3, 2, 2)),
+        (HANDLE, (3, 3)),
         (HANDLE, (2, 4)), (HANDLE, (2, 3, 2))]
 
 
@@ -113,10 +117,12 @@ class Refused(Promises):
 
     def test_dealing_and_names(self):
         names = ((0, 1), (0, 1))
-        for wrong in (None, True, 0, (), (0,), (0, 0), (1, 1), (0, 1, 0), (0, True), (False, 1), (0, 2), (-1, 1), [0, 1], "01"):
+        for wrong in (None, True, 0, (), (0,), (0, 0), (1, 1), (0, 1, 0), (0, True), (False, 1), (0, 2), (-1, 1),
+                      [0, 1], "01"):
             self.refuses("dealing", tight_code, ROW, (2, 2), wrong, names)
             self.refuses("dealing", tight_code, ROW, (2, 2), wrong, None)
-        for wrong in (None, True, 0, (), names[:1], (*names, (0, 1)), ((0, 1), (0, 0)), ((0, 1), (0, 2)), ((0, 1), (0,)),
+        for wrong in (None, True, 0, (), names[:1], (*names, (0, 1)), ((0, 1), (0, 0)), ((0, 1), (0, 2)),
+                      ((0, 1), (0,)),
                       ((0, 1), [0, 1]), list(names), ((0, 1), (False, True)), ((0, 1), (0, 1, 2))):
             self.refuses("names", tight_code, ROW, (2, 2), (1, 0), wrong)
         self.refuses("dealing", tight_code, KITE, (3, 2), (1, 0), ((0, 1, 2), (0, 1)))
@@ -124,6 +130,11 @@ class Refused(Promises):
 
     def test_rows(self):
         for wrong in (None, True, 0, (), ((0, 0), (1, 0)), ((0, 0), (1, 0), (1, 2)), ((0, 0), (1, 0), (1, True)),
-                      [(0, 0), (1, 0), (1, 1)], ((0, 0), (1, 0), (1, 0)), ((0, 0), (0, 0), (0, 0)), ((0, 0), (1, 0), (0, 0))):
+                      [(0, 0), (1, 0), (1, 1)], ((0, 0), (1, 0), (1, 0)), ((0, 0), (0, 0), (0, 0)),
+                      ((0, 0), (1, 0), (0, 0))):
             self.refuses("rows", tight_parts, ROW, (2, 2), wrong)
         self.refuses("rows", tight_parts, RING, (2, 2), ((0, 0), (1, 0), (1, 1)))
+
+
+if __name__ == "__main__":
+    unittest.main()

@@ -1,5 +1,7 @@
 """[72]: the work of a holding as an object, and works with another net hung on."""
 
+import unittest
+
 from stoodthen.heldmachines import held_machine
 from stoodthen.heldrows import passed_row, rows_at
 from stoodthen.holdkinds import is_holding, lets_holding
@@ -50,7 +52,8 @@ class Undos(Promises):
         undo = Undo(RING, (2, 2, 2), TIED)
         self.assertEqual(undo, Undo(RING, (2, 2, 2), TIED))
         self.assertTrue(undo == Undo((3, ((0, 1), (0, 2), (1, 2))), (2, 2, 2), (("ties", (0, 1, 2)),)))
-        for other in (Undo(RING, (2, 2, 3), TIED), Undo(RING, (2, 2, 2), (("ties", (0, 2, 1)),)), Undo(RING, (3,), (("dial", 0),)),
+        for other in (Undo(RING, (2, 2, 3), TIED), Undo(RING, (2, 2, 2), (("ties", (0, 2, 1)),)),
+                      Undo(RING, (3,), (("dial", 0),)),
                       Undo(ROW, (3,), BOTH_SHARED), *KINDS):
             self.assertFalse(undo == other)
             self.assertTrue(undo != other)
@@ -69,7 +72,8 @@ class Undos(Promises):
 
     def test_hung_is_held_as_before(self):
         """The work of the whole shows the old dials as before, and those of the other one as in that."""
-        for held, stage, other in ((HELD[13], 2, HELD[10]), (HELD[13], 0, HELD[11]), (HELD[24], 4, HELD[17]), (HELD[11], 1, HELD[5])):
+        for held, stage, other in ((HELD[13], 2, HELD[10]), (HELD[13], 0, HELD[11]), (HELD[24], 4, HELD[17]),
+                                   (HELD[11], 1, HELD[5])):
             whole = Undo(*held).hung(stage, *other)
             for place in range(held[0][0]):
                 self.assertEqual({row[:len(held[1])] for row in whole.rows(place)}, set(rows_at(*held, place)))
@@ -118,3 +122,7 @@ class Undos(Promises):
         for wrong in (None, 0, (), BOTH_SHARED[:1], list(BOTH_SHARED), (("dial", 0), ("dial", 3))):
             self.refuses("held", undo.hung, 2, ROW, (3,), wrong)
         self.assertEqual(undo, Undo(RING, (2, 2, 2), TIED))
+
+
+if __name__ == "__main__":
+    unittest.main()

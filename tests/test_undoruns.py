@@ -1,6 +1,7 @@
 """[77], [82], (G10): slices of nets done one after the other, and the watches that end."""
 
 import random
+import unittest
 
 from stoodthen.errors import InvalidEvent
 from stoodthen.nets import line_net
@@ -11,13 +12,15 @@ from tests.samples import ODD, POINT, RING, ROW, Promises
 
 NO_SLICES = (None, True, 0, "", [], "go", ("pass", 1), (("go",),), ((),), (None,), [("pass", 1)])
 RUNS = [(held, plainruns.net_slices(seed, held)) for seed, held in enumerate(HELD)]
-RUNS += [(held, plainruns.net_slices(700 + seed, held, 60)) for held in (HELD[7], HELD[11], HELD[13]) for seed in range(4)]
+RUNS += [(held, plainruns.net_slices(700 + seed, held, 60)) for held in (HELD[7], HELD[11], HELD[13])
+         for seed in range(4)]
 ORDERS = ((2, 0, 1),)
 
 
 def asked(net):
     stages = (0, 1, 2, net[0] - 1, net[0], 10 ** 60)
-    return (*[(word, stage) for word in ("pass", "begin") for stage in stages], ("end",), ("look", 0, "old"), ("look", 2, "new"),
+    return (*[(word, stage) for word in ("pass", "begin") for stage in stages], ("end",), ("look", 0, "old"),
+            ("look", 2, "new"),
             ("look", 3, "old"), ("halt", 0), ("halt", 1), ("halt", 3), ("go",), ("begin",), None, ())
 
 
@@ -29,12 +32,17 @@ def again(held, run, many, orders=True):
     return fresh
 
 
+def first_place(run):
+    """Where to begin so that runs are looked at at unlike places."""
+    return len(run.log) % 7
+
+
 class Reasons(Promises):
 
     def test_behind_slices(self):
         found = {}
         for held, run in RUNS:
-            for many in range(0, len(run.log) + 1, 8):
+            for many in range(first_place(run), len(run.log) + 1, 14):
                 behind = again(held, run, many)
                 for piece in asked(held[0]):
                     reason = behind.barred(piece)
@@ -70,7 +78,8 @@ class Reasons(Promises):
         for wrong in (None, True, -1, "1", ()):
             self.refuses("many", undo_reason, ROW, (3,), BOTH_SHARED, wrong, (), None)
             self.refuses("many", undo_reason, ROW, (3,), BOTH_SHARED, wrong, None, None)
-        for wrong in (*NO_SLICES, (("pass", 2),), (("end",),), (("begin", 1),) * 2, (("look", 1, "old"),), (("halt", 0),) * 2):
+        for wrong in (*NO_SLICES, (("pass", 2),), (("end",),), (("begin", 1),) * 2, (("look", 1, "old"),),
+                      (("halt", 0),) * 2):
             self.refuses("slices", undo_reason, ROW, (3,), BOTH_SHARED, 1, wrong, None)
 
 
@@ -134,7 +143,8 @@ class Runs(Promises):
 
     def test_no_slices_and_one_stage(self):
         self.gives((), undo_run, ROW, (3,), BOTH_SHARED, ((0,),), ())
-        self.gives(((0, 0, 1, (0, 0), 0),), undo_run, POINT, (2, 2), (), ((1, 0),), (("look", 0, "new"), ("look", 0, "old")))
+        self.gives(((0, 0, 1, (0, 0), 0),), undo_run, POINT, (2, 2), (), ((1, 0),),
+                   (("look", 0, "new"), ("look", 0, "old")))
 
     def test_stood(self):
         for held, run in RUNS:
@@ -147,7 +157,8 @@ class Runs(Promises):
     def test_twelve_stages_and_many_readers(self):
         net = line_net(12)
         slices = (*[("pass", stage) for stage in range(1, 12)], ("look", 59, "old"), ("begin", 10), ("look", 0, "new"))
-        self.gives(((59, 11, 11, (11,), 11), (0, 13, 13, (10,), 10)), undo_run, net, (12,), (("dial", 0),) * 11, ((0,),) * 60, slices)
+        self.gives(((59, 11, 11, (11,), 11), (0, 13, 13, (10,), 10)), undo_run, net, (12,), (("dial", 0),) * 11,
+                   ((0,),) * 60, slices)
         self.gives(tuple(range(1, 12)), stood_lot, net, (12,), (("dial", 0),) * 11, slices, 0, 13)
         self.gives((10, 11), stood_lot, net, (12,), (("dial", 0),) * 11, (*slices, ("halt", 10 ** 60)), 12, 14)
 
@@ -159,7 +170,8 @@ class Runs(Promises):
             for wrong in (None, True, 0, (), BOTH_SHARED[:1], (("dial", 0), ("dial", 1))):
                 self.refuses("holding", function, ROW, (3,), wrong, *more)
                 self.refuses("holding", function, ROW, (3,), wrong, *[None for _ in more])
-        for wrong in (None, True, 0, (), ORDERS[0], list(ORDERS), ((0, 1),), ((0, 1, 1),), ((0, 1, 3),), ((0, 1, 2, 0),),
+        for wrong in (None, True, 0, (), ORDERS[0], list(ORDERS), ((0, 1),), ((0, 1, 1),), ((0, 1, 3),),
+                      ((0, 1, 2, 0),),
                       (ORDERS[0], None), ((0, True, 2),), ([0, 1, 2],), ((),)):
             self.refuses("orders", undo_run, RING, (2, 2, 2), TIED, wrong, ())
             self.refuses("orders", undo_run, RING, (2, 2, 2), TIED, wrong, None)
@@ -175,3 +187,7 @@ class Runs(Promises):
             self.refuses("end", stood_lot, ROW, (3,), BOTH_SHARED, slices, 0, wrong)
         self.refuses("end", stood_lot, ROW, (3,), BOTH_SHARED, slices, 2, 1)
         self.refuses("begin", stood_lot, ROW, (3,), BOTH_SHARED, (), 0, 0)
+
+
+if __name__ == "__main__":
+    unittest.main()
